@@ -1,0 +1,1 @@
+"""Deadlevers: trials of levers that may be stuck."""

@@ -1,0 +1,116 @@
+"""Points 1 and 2 for all functions: names of arguments, arguments that stay, answers of tuples."""
+
+import copy
+import importlib
+import inspect
+import unittest
+
+from deadlevers.errors import LeverError, NoLever
+from deadlevers.tables import Table
+from helpers import Case, has_only_tuples, same
+
+TREE = ["all", [["any", [0, ["all", [1, 2]]]], ["any", [["all", [3, 4]], 5]]]]
+OTHER = ["any", [["all", [0, 1]], 2, ["all", [3, 4, 5]]]]
+SETTING = [1, 0, 1, 1, 1, 0]
+LIST = [[1, 0, 1, 1, 1, 0], [0, 1, 1, 0, 1, 1], [0, 0, 1, 0, 0, 1], [1, 1, 1, 1, 0, 0]]
+LOT = [[0, 0], [1, 1], [3, 1], [5, 0]]
+NAMES = ["door", "key", "lid", "cap", "bolt", "chain"]
+MAJORITY = Table([0, 0, 0, 1, 0, 1, 1, 1])
+FORK = Table([0, 0, 0, 1, 0, 1, 0, 1])
+
+# By module the functions, with the names of their arguments and some arguments.
+CALLS = {
+    "trees": [
+        ("is_flat", "part", [("all", (0, 1))]), ("is_tall", "part", [("all", (0, ("any", (1, 2))))]),
+        ("part_levers", "part", [("all", (0, ("any", (1, 2))))]), ("joined", "word parts", ["all", [3, ("all", (1, 2))]]),
+        ("check_tree", "value", [TREE]), ("tree_levers", "tree", [TREE]), ("check_setting", "value many", [SETTING, 6]),
+        ("check_list", "value many", [LIST, 6]), ("check_lot", "value many", [LOT, 6]),
+        ("broken_setting", "setting lot", [SETTING, LOT]), ("tree_lamp", "tree setting", [TREE, SETTING]),
+        ("broken_lamp", "tree lot setting", [TREE, LOT, SETTING]), ("left_part", "tree lot", [TREE, LOT[:2]]),
+        ("tree_knots", "tree", [TREE]), ("part_at", "tree place", [TREE, [0, 1]]),
+        ("lever_place", "tree lever", [TREE, 4]), ("mirror_tree", "tree", [TREE]),
+        ("named_tree", "tree levers", [TREE, [5, 3, 4, 0, 2, 1]]),
+    ],
+    "pairs": [
+        ("pair_place", "tree one other", [TREE, 3, 5]), ("pair_word", "tree one other", [TREE, 3, 5]),
+        ("bare_setting", "tree one other", [TREE, 3, 5]), ("tree_parting", "tree other", [TREE, OTHER]),
+        ("lot_parting", "tree lot other", [TREE, LOT, LOT[:2]]),
+    ],
+    "burning": [
+        ("burning_number", "tree", [TREE]), ("burning_at", "tree number", [TREE, 5]),
+        ("burning_before", "tree setting", [TREE, SETTING]),
+    ],
+    "tables": [
+        ("setting_number", "setting", [SETTING]), ("number_setting", "number many", [13, 6]),
+        ("tree_table", "tree", [TREE]), ("table_lamp", "table setting", [FORK, [0, 1, 1]]),
+        ("lot_table", "table lot", [FORK, [[0, 1], [2, 0]]]), ("table_parting", "one other", [FORK, MAJORITY]),
+        ("hang_setting", "table lever", [FORK, 2]), ("mattering", "table", [FORK]), ("sense_paper", "table", [FORK]),
+        ("sense_holds", "table value", [FORK, ["senses", [1, 1, 1]]]), ("is_rising", "table", [FORK]),
+        ("turned_table", "table levers", [FORK, [0, 2]]),
+    ],
+    "texts": [
+        ("read_condition", "text", ["a and (b or not c)"]),
+        ("condition_text", "tree names senses", [TREE, NAMES, [1, -1, 1, 1, -1, 1]]),
+        ("up_text", "names setting", [NAMES, SETTING]), ("read_up", "names text", [NAMES, "cap door"]),
+    ],
+    "hanging": [
+        ("hung_levers", "tree setting", [TREE, SETTING]), ("table_hung", "table setting", [FORK, [0, 1, 1]]),
+        ("cleared_levers", "tree settings", [TREE, LIST]), ("uncleared", "tree settings", [TREE, LIST]),
+        ("is_clearing", "tree settings", [TREE, LIST]), ("joint_paper", "tree levers place", [TREE, [0, 3], 1]),
+        ("joint_holds", "tree levers place value", [TREE, [0, 1], 1, ["pair", [0, 1]]]),
+    ],
+}
+DEFAULTS = {"condition_text": {"senses": None}}
+NAMED = {}
+WRONG = [
+    ("trees", "check_tree", [["all", [0, ["all", [1, 2]]]]]), ("trees", "named_tree", [TREE, [0, 1, 2, 3, 4, 4]]),
+    ("trees", "part_at", [TREE, [0, 7]]), ("trees", "lever_place", [TREE, [1]]),
+    ("trees", "check_lot", [[[0, 1], [0, 0]], 6]), ("pairs", "tree_parting", [TREE, ["any", [0, 1]]]),
+    ("tables", "turned_table", [FORK, [2, 0]]), ("texts", "up_text", [["a", "a"], [0, 1]]),
+    ("hanging", "joint_paper", [TREE, [3, 0], 1]), ("hanging", "joint_holds", [TREE, [0], [1], None]),
+]
+
+
+def calls():
+    for module, rows in CALLS.items():
+        for name, names, told in rows:
+            yield module, getattr(importlib.import_module("deadlevers." + module), name), names.split(), told
+
+
+class CallsTest(Case):
+
+    def test_every_function_is_there(self):
+        for module, function, names, _ in calls():
+            self.assertEqual(function.__module__, "deadlevers." + module)
+            found = inspect.signature(function).parameters
+            plain = [name for name in found if found[name].kind is inspect.Parameter.POSITIONAL_OR_KEYWORD]
+            self.assertEqual(plain, names, function.__name__)
+            behind = [name for name in found if found[name].kind is inspect.Parameter.KEYWORD_ONLY]
+            self.assertEqual(behind, list(NAMED.get(function.__name__, {})))
+            defaults = {name: found[name].default for name in found if found[name].default is not inspect.Parameter.empty}
+            self.assertEqual(defaults, DEFAULTS.get(function.__name__, {}))
+
+    def test_arguments_stay_and_answers_are_tuples(self):
+        for _, function, names, told in calls():
+            more = NAMED.get(function.__name__, {})
+            before = copy.deepcopy(told)
+            found = function(*told, **more)
+            self.assertTrue(same(told, before), function.__name__)
+            self.assertTrue(has_only_tuples(found), (function.__name__, found))
+            again = function(**dict(zip(names, told)), **more)
+            self.assertTrue(same(found, again), (function.__name__, found, again))
+
+    def test_arguments_stay_where_they_are_wrong(self):
+        for module, name, told in WRONG:
+            function = getattr(importlib.import_module("deadlevers." + module), name)
+            before = copy.deepcopy(told)
+            with self.assertRaises((LeverError, NoLever)):
+                function(*told)
+            self.assertTrue(same(told, before), name)
+
+    def test_named_places_of_table(self):
+        self.assertEqual(list(inspect.signature(Table).parameters), ["lamps"])
+
+
+if __name__ == "__main__":
+    unittest.main()
