@@ -59,15 +59,55 @@ CALLS = {
         ("is_clearing", "tree settings", [TREE, LIST]), ("joint_paper", "tree levers place", [TREE, [0, 3], 1]),
         ("joint_holds", "tree levers place value", [TREE, [0, 1], 1, ["pair", [0, 1]]]),
     ],
+    "trials": [
+        ("wish_count", "tree wishes place", [TREE, [1, 0, 2, 1, 3, 0], 1]),
+        ("dear_levers", "tree wishes place", [TREE, [1, 0, 2, 1, 3, 0], 0]),
+        ("wish_list", "tree wishes place", [TREE, [1, 0, 2, 1, 3, 0], 1]), ("best_setting", "tree place", [TREE, 0]),
+        ("lacking", "tree settings", [TREE, LIST]), ("completed", "tree settings", [TREE, LIST]),
+        ("spare_settings", "tree settings", [TREE, LIST]), ("kept_settings", "tree settings", [TREE, LIST]),
+        ("shortest", "tree settings", [TREE, LIST]), ("hung_numbers", "tree", [TREE]),
+        ("hung_count", "tree lever", [TREE, 3]),
+    ],
+    "killers": [
+        ("killed_levers", "table lever place", [FORK, 2, 0]), ("all_killings", "table", [FORK]),
+        ("idle_killers", "table", [MAJORITY]),
+    ],
+    "twins": [
+        ("all_twins", "table", [FORK]), ("joined_twins", "table one other", [FORK, 2, 1]),
+        ("split_lever", "table lever word", [FORK, 1, "any"]),
+    ],
+    "cores": [
+        ("core_box", "table", [FORK]), ("found_tree", "table", [FORK]),
+        ("table_of", "core trees", [MAJORITY, [0, ["all", [1, 3]], 2]]), ("core_paper", "table", [MAJORITY]),
+        ("check_core", "table value", [MAJORITY, ["killer", [], 0]]),
+        ("core_holds", "table value", [MAJORITY, ["killer", [], 0]]),
+    ],
+    "court": [
+        ("tall_place", "tree", [TREE]), ("is_honest", "tree", [TREE]), ("court_paper", "table", [FORK]),
+        ("box_honest", "table", [FORK]), ("court_holds", "table value", [MAJORITY, ["core", [], 0]]),
+    ],
+    "updown": [("trial_counts", "tree", [TREE])],
+    "lists": [
+        ("doubtful_list", "tree doubts", [TREE, [[0, 0], [1, 1], [5, 0]]]), ("least_list", "tree", [TREE]),
+        ("up_rows", "tree many", [TREE, 3]), ("down_rows", "tree many", [TREE, 4]), ("least_lists", "tree", [TREE]),
+    ],
+    "sizes": [
+        ("least_trials", "levers", [12]), ("size_pairs", "levers", [12]), ("sized_tree", "levers up down", [12, 5, 4]),
+        ("tree_numbers", "levers", [6]),
+    ],
 }
 DEFAULTS = {"condition_text": {"senses": None}}
-NAMED = {}
+NAMED = {"shortest": {"most": 100}}
 WRONG = [
     ("trees", "check_tree", [["all", [0, ["all", [1, 2]]]]]), ("trees", "named_tree", [TREE, [0, 1, 2, 3, 4, 4]]),
     ("trees", "part_at", [TREE, [0, 7]]), ("trees", "lever_place", [TREE, [1]]),
     ("trees", "check_lot", [[[0, 1], [0, 0]], 6]), ("pairs", "tree_parting", [TREE, ["any", [0, 1]]]),
     ("tables", "turned_table", [FORK, [2, 0]]), ("texts", "up_text", [["a", "a"], [0, 1]]),
     ("hanging", "joint_paper", [TREE, [3, 0], 1]), ("hanging", "joint_holds", [TREE, [0], [1], None]),
+    ("trials", "wish_count", [TREE, [1, 0, 2, 1, 3, -1], 1]), ("trials", "wish_list", [TREE, [400, 1, 2, 1, 3, 0], 1]),
+    ("killers", "killed_levers", [FORK, [0], 1]), ("twins", "split_lever", [FORK, 0, ["all"]]),
+    ("cores", "table_of", [FORK, [0, ["all", [2, 1]], 3]]), ("cores", "check_core", [FORK, ["killer", [[0, 1, "all"]], 0]]),
+    ("lists", "doubtful_list", [TREE, [[0, 1], [0, 0]]]), ("sizes", "sized_tree", [6, [1], [2]]),
 ]
 
 

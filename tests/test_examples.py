@@ -6,6 +6,15 @@ import unittest
 
 README = os.path.join(os.path.dirname(os.path.abspath(__file__)), os.pardir, "README.md")
 
+OVERVIEW = '''
+>>> from deadlevers.court import is_honest
+>>> from deadlevers.updown import trial_counts
+>>> pair = ("all", (("any", (0, 1)), ("any", (2, 3))))
+>>> doors = ("all", (("any", (0, ("all", (1, 2)))), ("any", (3, ("all", (4, 5))))))
+>>> is_honest(pair), is_honest(doors), trial_counts(doors)
+(True, False, (2, 4))
+'''
+
 BOXES = '''
 >>> from deadlevers.burning import burning_at, burning_number
 >>> from deadlevers.pairs import bare_setting, pair_word, tree_parting
@@ -25,15 +34,59 @@ BOXES = '''
 '(door or not key) and (lid or cap)'
 '''
 
-HANGING = '''
+TRIALS = '''
 >>> from deadlevers.hanging import cleared_levers, hung_levers, joint_paper, uncleared
+>>> from deadlevers.trials import hung_numbers, lacking, shortest, spare_settings, wish_count
 >>> tree = ("all", (0, ("any", (1, 2))))
->>> hung_levers(tree, (1, 1, 0)), cleared_levers(tree, [(1, 1, 0), (0, 1, 1)])
-((0, 1), ((0, 1), (0,)))
->>> joint_paper(tree, (1, 2), 1)
-('pair', (1, 2))
->>> uncleared(tree, [(1, 1, 0), (0, 1, 1)])
-((1, 0), (2, 0), (2, 1))
+>>> hung_levers(tree, (1, 1, 0)), cleared_levers(tree, [(1, 1, 0), (0, 1, 1)]), lacking(tree, [(1, 1, 0), (0, 1, 1)])
+((0, 1), ((0, 1), (0,)), (1, 1))
+>>> joint_paper(tree, (1, 2), 1), wish_count(tree, (1, 3, 2), 1), wish_count(tree, (1, 3, 2), 0)
+(('pair', (1, 2)), 5, 4)
+>>> uncleared(tree, [(1, 1, 0), (0, 1, 1)]), hung_numbers(tree)
+(((1, 0), (2, 0), (2, 1)), ((1, 3, 1), (0, 1, 2)))
+>>> spare_settings(tree, [(1, 1, 0), (1, 1, 1), (1, 0, 1)]), shortest(tree, [(1, 1, 0), (1, 1, 1), (1, 0, 1)], most=8)
+((1,), (0, 2))
+'''
+
+CORES = '''
+>>> from deadlevers.cores import core_box, core_holds, found_tree, table_of
+>>> from deadlevers.killers import idle_killers, killed_levers
+>>> from deadlevers.tables import Table, tree_table
+>>> from deadlevers.twins import all_twins
+>>> two = Table([0, 0, 0, 1, 0, 1, 1, 1])
+>>> all_twins(two), idle_killers(two), core_holds(two, ("killer", [], 2))
+((), (0, 1, 2), True)
+>>> box = tree_table(("all", (0, ("any", (1, 2)), 3)))
+>>> killed_levers(box, 1, 1), all_twins(box), found_tree(box)
+((2,), ((0, 3, 'all'), (1, 2, 'any')), ('all', (0, ('any', (1, 2)), 3)))
+>>> wide = table_of(two, [0, ("all", (1, 3)), 2])
+>>> core_box(wide) == (two, (0, ("all", (1, 3)), 2))
+True
+'''
+
+COURT = '''
+>>> from deadlevers.court import court_holds, is_honest, tall_place
+>>> from deadlevers.tables import Table
+>>> tall = ("any", (0, ("all", (1, 2))))
+>>> two = ("all", (tall, ("any", (("all", (3, 4)), 5))))
+>>> is_honest(tall), tall_place(two)
+(True, ((), (0, 1)))
+>>> most = Table([0, 0, 0, 1, 0, 1, 1, 1])
+>>> court_holds(most, ("core", (), 2))
+True
+'''
+
+FEWEST = '''
+>>> from deadlevers.lists import doubtful_list, least_list, least_lists, up_rows
+>>> from deadlevers.sizes import least_trials, tree_numbers
+>>> from deadlevers.updown import trial_counts
+>>> tree = ("all", (0, ("any", (1, 2))))
+>>> trial_counts(tree), doubtful_list(tree, [(0, 1), (2, 1)])
+((2, 2), ('list', (), ((0, 1, 1), (1, 0, 0))))
+>>> least_list(tree)
+('list', ((1, 1, 0), (1, 0, 1)), ((0, 1, 0), (1, 0, 0)))
+>>> up_rows(tree, 2), least_lists(tree), least_trials(12), tree_numbers(3)
+(2, 3, 7, ((1, 3, 1), (2, 2, 2), (3, 1, 1)))
 '''
 
 # From later chapters: what their examples tell of modules that are there.
@@ -47,7 +100,8 @@ LATER = '''
 (True, [0, 0, 0, 0, 0, 0])
 '''
 
-ALL = {"boxes": BOXES, "hanging": HANGING, "later": LATER}
+ALL = {"overview": OVERVIEW, "boxes": BOXES, "trials": TRIALS, "cores": CORES, "court": COURT,
+       "fewest": FEWEST, "later": LATER}
 
 
 class ExamplesTest(unittest.TestCase):
