@@ -1,15 +1,15 @@
 """The core of a rising box: what is left if twins are joined as long as there are any."""
 
 from deadlevers.columns import lamp_columns
-from deadlevers.errors import PaperFault, Refused, TooGreat
+from deadlevers.errors import BadTree, PaperFault, Refused, TooGreat
 from deadlevers.killers import idlers
 from deadlevers.masks import up_mask
 from deadlevers.rising import check_rising
 from deadlevers.tables import MOST_TABLE_LEVERS, Table
-from deadlevers.trees import joined
+from deadlevers.trees import check_tree, joined
 from deadlevers.twins import twins_of, with_one_for_both
 from deadlevers.values import has_length, is_below, is_sequence
-from deadlevers.walks import MOST_LEVERS, is_ordered, read_form, row_levers, row_parts
+from deadlevers.walks import MOST_LEVERS, is_ordered, read_form, row_levers
 
 
 class Joining:
@@ -123,10 +123,10 @@ def are_joinings(value, many):
 
 def told_tree(value):
     """Any value that is a tree, as tuples; else None."""
-    walk = read_form(value)
-    if walk is None or sorted(row_levers(walk)) != list(range(walk.many)) or not is_ordered(walk):
+    try:
+        return check_tree(value)
+    except BadTree:
         return None
-    return row_parts(walk)[0]
 
 
 def core_told(value, many):

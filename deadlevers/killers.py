@@ -1,6 +1,6 @@
 """Levers that, held at a place, leave others without any say."""
 
-from deadlevers.masks import lamps_mask, lit_mask, low_mask, up_mask
+from deadlevers.masks import bits_number, lit_mask, low_mask, up_mask
 from deadlevers.rising import check_rising
 from deadlevers.values import check_lever, check_place
 
@@ -8,7 +8,7 @@ from deadlevers.values import check_lever, check_place
 def killings(table):
     """By lever a pair: those that it kills at 0, and at 1; of a rising box."""
     many = table.levers
-    mask = lamps_mask(table.lamps)
+    mask = bits_number(table.lamps)
     hangs = [lit_mask(mask, lever, many) for lever in range(many)]
     found = []
     for lever in range(many):

@@ -3,17 +3,17 @@
 from deadlevers.columns import full_column
 
 
-def lamps_mask(lamps):
-    """The integer of some lamps."""
-    mask = 0
-    for number, lamp in enumerate(lamps):
-        mask |= lamp << number
-    return mask
+def bits_number(bits):
+    """The integer of some bits, the first one counting 1."""
+    number = 0
+    for at, bit in enumerate(bits):
+        number |= bit << at
+    return number
 
 
-def mask_lamps(mask, many):
-    """The lamps of the integer of a box with `many` levers."""
-    return tuple([mask >> number & 1 for number in range(1 << many)])
+def number_bits(number, count):
+    """The first bits of an integer."""
+    return tuple([number >> at & 1 for at in range(count)])
 
 
 def low_mask(lever, many):

@@ -2,7 +2,7 @@
 
 from deadlevers.columns import filled_setting, setting_lamp
 from deadlevers.errors import Refused
-from deadlevers.trees import check_lot, check_tree, left_part
+from deadlevers.trees import check_lot, check_tree, left_part, tree_levers
 from deadlevers.values import check_lever
 from deadlevers.walks import levers_by_row, parting_row, read_form, row_levers, row_place, tree_walk
 
@@ -116,7 +116,7 @@ def own_lever_setting(left, beside, lever, many):
 
 
 def left_parting(left, beside, many):
-    """A setting at which what two lots leave, unlike things, has unlike lamps."""
+    """A setting at which what two lots leave has unlike lamps, or None."""
     levers = what_levers(left)
     others = what_levers(beside)
     for lever in levers:
@@ -126,20 +126,19 @@ def left_parting(left, beside, many):
         if lever not in levers:
             return own_lever_setting(beside, left, lever, many)
     if not levers:
-        return tuple([0] * many)
+        return None if left == beside else tuple([0] * many)
     walk = read_form(left[1])
     other_walk = read_form(beside[1])
-    return parted_setting(walk, other_walk, unlike_pair(walk, other_walk, many), many)
+    pair = unlike_pair(walk, other_walk, many)
+    if pair is None:
+        return None
+    return parted_setting(walk, other_walk, pair, many)
 
 
 def lot_parting(tree, lot, other):
     """None if a tree with either lot has the same lamps, else some setting at which it has not."""
     whole = check_tree(tree)
-    walk = tree_walk(whole)
-    first = check_lot(lot, walk.many)
-    second = check_lot(other, walk.many)
-    left = left_part(whole, first)
-    beside = left_part(whole, second)
-    if left == beside:
-        return None
-    return left_parting(left, beside, walk.many)
+    many = tree_levers(whole)
+    first = check_lot(lot, many)
+    second = check_lot(other, many)
+    return left_parting(left_part(whole, first), left_part(whole, second), many)

@@ -1,7 +1,7 @@
 """Rising boxes all of whose levers matter."""
 
 from deadlevers.errors import Refused
-from deadlevers.masks import lamps_mask, lit_mask, out_mask
+from deadlevers.masks import bits_number, lit_mask, out_mask
 from deadlevers.tables import Table
 
 
@@ -9,7 +9,7 @@ def is_full_rising(table):
     """Whether it is a rising box all of whose levers matter."""
     if not isinstance(table, Table):
         return False
-    mask = lamps_mask(table.lamps)
+    mask = bits_number(table.lamps)
     for lever in range(table.levers):
         if lit_mask(mask, lever, table.levers) == 0 or out_mask(mask, lever, table.levers) != 0:
             return False

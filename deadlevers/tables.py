@@ -2,7 +2,7 @@
 
 from deadlevers.columns import lamp_columns
 from deadlevers.errors import BadTable, Refused, TooGreat
-from deadlevers.masks import first_bit, lamps_mask, lit_mask, mask_lamps, out_mask, up_mask
+from deadlevers.masks import bits_number, first_bit, lit_mask, number_bits, out_mask, up_mask
 from deadlevers.trees import check_lot, check_setting, first_wrong_place
 from deadlevers.values import are_ascending, check_lever, has_length, is_below, is_integer
 from deadlevers.walks import tree_walk
@@ -12,15 +12,12 @@ MOST_TABLE_LEVERS = 10
 
 def setting_number(setting):
     """The number of a setting: the lever z counts 2 to the power of z."""
-    number = 0
-    for lever, place in enumerate(setting):
-        number |= place << lever
-    return number
+    return bits_number(setting)
 
 
 def number_setting(number, many):
     """The setting of `many` levers with a number."""
-    return tuple([number >> lever & 1 for lever in range(many)])
+    return number_bits(number, many)
 
 
 def table_size(value):
@@ -54,7 +51,7 @@ def tree_table(tree):
     if walk.many > MOST_TABLE_LEVERS:
         raise TooGreat(MOST_TABLE_LEVERS)
     columns = [up_mask(lever, walk.many) for lever in range(walk.many)]
-    return Table(mask_lamps(lamp_columns(walk, columns)[0], walk.many))
+    return Table(number_bits(lamp_columns(walk, columns)[0], 1 << walk.many))
 
 
 def table_lamp(table, setting):
@@ -76,7 +73,7 @@ def table_parting(one, other):
     """The least setting at which two boxes have unlike lamps, or None."""
     if one.levers != other.levers:
         raise Refused(other)
-    unlike = lamps_mask(one.lamps) ^ lamps_mask(other.lamps)
+    unlike = bits_number(one.lamps) ^ bits_number(other.lamps)
     if unlike == 0:
         return None
     return number_setting(first_bit(unlike), one.levers)
@@ -84,7 +81,7 @@ def table_parting(one, other):
 
 def turning_masks(table, lever):
     """The settings with the lever down at which turning it up lights the lamp, puts it out."""
-    mask = lamps_mask(table.lamps)
+    mask = bits_number(table.lamps)
     return (lit_mask(mask, lever, table.levers), out_mask(mask, lever, table.levers))
 
 

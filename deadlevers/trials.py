@@ -136,14 +136,6 @@ def knot_hangs(same, unlike):
     return (all_same, plus(one_unlike, [rest]))
 
 
-def without_zeros(numbers):
-    """The numbers to the last one that is not 0."""
-    count = len(numbers)
-    while count > 0 and numbers[count - 1] == 0:
-        count -= 1
-    return tuple(numbers[:count])
-
-
 def hung_numbers(tree):
     """(dark, burning): by j how many settings hang on just j levers."""
     walk = tree_walk(tree)
@@ -157,7 +149,7 @@ def hung_numbers(tree):
             else:
                 darkens, burns = knot_hangs(dark, burning)
             found[row] = (darkens, burns)
-    return (without_zeros(found[0][0]), without_zeros(found[0][1]))
+    return (tuple(found[0][0]), tuple(found[0][1]))
 
 
 def hung_count(tree, lever):

@@ -258,6 +258,15 @@ def plain_cleared(tree, settings):
     return found
 
 
+def plain_counts(tree):
+    """(up, down) as point 29 tells them."""
+    if isinstance(tree, int):
+        return (1, 1)
+    counts = [plain_counts(part) for part in tree[1]]
+    ups, downs = [up for up, _ in counts], [down for _, down in counts]
+    return (max(ups), sum(downs)) if tree[0] == "all" else (sum(ups), max(downs))
+
+
 def all_deaths(many):
     return [(lever, place) for lever in range(many) for place in (0, 1)]
 

@@ -207,8 +207,11 @@ class PaperTest(Case):
         for value in bad + list(ANY_VALUES):
             self.fails(PaperFault, 0, check_core, table, value)
             self.gives(False, core_holds(table, value))
+        for word in ANY_VALUES + ("tree", "core", "kill"):
+            self.fails(PaperFault, 0, check_core, MAJORITY, (word, (), 0))
+        for word in ANY_VALUES + ("killer", "honest"):
+            self.fails(PaperFault, 0, check_core, table, (word, tree, steps))
         for value in ANY_VALUES:
-            self.fails(PaperFault, 0, check_core, table, (value, tree, steps))
             if not same(value, 0):
                 self.fails(PaperFault, 0, check_core, table, ("tree", value, steps))
             if not isinstance(value, (list, tuple)) or len(value) > 0:

@@ -127,6 +127,8 @@ class CourtTest(Case):
                 (flat, ("core", (), 0)), (flat, ("honest", flat_tree(3), ())), (flat, ("killer", (), 0)),
                 (flat, ("honest", flat_tree(3, "any"), core_paper(flat)[2])), (MAJORITY, ("killer", (), 0)),
                 (MAJORITY, ("core", (), 3)), (MAJORITY, ("core", ((0, 1, "all"),), 2)), (MAJORITY, ("core", (), 0, 0)),
+                (flat, ("tree", flat_tree(3), core_paper(flat)[2])), (two, ("honest", TWO, steps, (), (0, 1))),
+                (two, ("wide", TWO, steps, (), (0, 1))), (flat, ("", flat_tree(3), core_paper(flat)[2])),
                 (MAJORITY, ("honest", flat_tree(3), ())), (MAJORITY, (["core"], (), 0)), (MAJORITY, ("core", (), False)))
         for table, value in bent:
             self.gives(False, court_holds(table, value))

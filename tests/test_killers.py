@@ -76,6 +76,9 @@ class KillerTest(Case):
                 self.refuses(table, call, table)
             self.refuses(table, joined_twins, table, None, None)
             self.refuses(table, split_lever, table, None, None)
+        for value in ANY_VALUES:
+            if not isinstance(value, Table):
+                self.refuses(value, all_killings, value)
 
     def test_other_arguments(self):
         table = tree_table(flat_tree(3))

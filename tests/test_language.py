@@ -129,7 +129,7 @@ class LanguageTest(unittest.TestCase):
                 self.assertIsInstance(node.exc, ast.Call, at)
                 self.assertIsInstance(node.exc.func, ast.Name, at)
             if isinstance(node, ast.Try):
-                self.assertEqual([handler.type.id for handler in node.handlers], ["PaperFault"], at)
+                self.assertLessEqual({handler.type.id for handler in node.handlers}, self.defined["errors.py"], at)
                 self.assertEqual(node.finalbody, [])
             if isinstance(node, ast.Compare):
                 for sign, right in zip(node.ops, node.comparators):

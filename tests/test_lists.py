@@ -10,16 +10,8 @@ from deadlevers.lists import doubtful_list, down_rows, least_list, least_lists, 
 from deadlevers.trees import tree_lamp
 from deadlevers.updown import trial_counts
 from helpers import (ANY_VALUES, GREAT_TREES, Case, all_deaths, all_lots, as_lists, broken, chain_tree, drawn_tree,
-                     drawn_trees, flat_tree, lamp, many_of, pairs_tree, plain_cleared, plain_clears, rising_lamps, same,
-                     settings_of, some_trees)
-
-
-def plain_counts(tree):
-    if isinstance(tree, int):
-        return (1, 1)
-    counts = [plain_counts(part) for part in tree[1]]
-    ups, downs = [up for up, _ in counts], [down for _, down in counts]
-    return (max(ups), sum(downs)) if tree[0] == "all" else (sum(ups), max(downs))
+                     drawn_trees, flat_tree, lamp, many_of, pairs_tree, plain_cleared, plain_clears, plain_counts,
+                     rising_lamps, same, settings_of, some_trees)
 
 
 def clearing_sets(tree, place):

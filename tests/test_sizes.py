@@ -7,7 +7,7 @@ from deadlevers.errors import Refused
 from deadlevers.sizes import least_trials, size_pairs, sized_tree, tree_numbers
 from deadlevers.trees import check_tree, tree_levers
 from deadlevers.updown import trial_counts
-from helpers import ANY_VALUES, Case, all_trees, same
+from helpers import ANY_VALUES, Case, all_trees, plain_counts, same
 
 
 def shape(tree):
@@ -44,14 +44,6 @@ def partitions(count, most=None):
     for first in range(min(count, most), 0, -1):
         for rest in partitions(count - first, first):
             yield (first,) + rest
-
-
-def counts(tree):
-    if isinstance(tree, int):
-        return (1, 1)
-    found = [counts(part) for part in tree[1]]
-    ups, downs = [up for up, _ in found], [down for _, down in found]
-    return (max(ups), sum(downs)) if tree[0] == "all" else (sum(ups), max(downs))
 
 
 class SizesTest(Case):
@@ -115,7 +107,7 @@ class SizesTest(Case):
 
     def test_numbers_of_shapes(self):
         for many in range(1, 10):
-            found = [counts(told[0]) for told in all_shapes(many)]
+            found = [plain_counts(told[0]) for told in all_shapes(many)]
             self.assertEqual(len({told[1] for told in all_shapes(many)}), len(found))
             worth = tuple((up, down, found.count((up, down))) for up, down in sorted(set(found)))
             self.gives(worth, tree_numbers(many))

@@ -201,7 +201,7 @@ class SenseTest(Case):
             good = same(value, (0, 1)) or same(value, [0, 1])
             self.gives(good, sense_holds(mixed, ("mixed", 0, (0, 0), value)))
         for value in (("senses", (1, 1), 0), ("senses",), ("senses", (1, True)), ("senses", (1, 1, 1)), ("senses", (1,)),
-                      ("mixed", 0, (0, 0)), ("mixed", 0, (0, 0), (0, 1), 0), "senses", ("sense", (1, 1))):
+                      ("mixed", 0, (0, 0)), ("mixed", 0, (0, 0), (0, 1), 0), "senses", ("senses", 0, (0, 0), (0, 1)), ("sense", (1, 1))):
             self.gives(False, sense_holds(rising, value))
             self.gives(False, sense_holds(mixed, value))
         self.gives(True, sense_holds(rising, ("senses", [1, 1])))

@@ -69,6 +69,9 @@ class TreeCheckTest(Case):
         endless = ["all", [0, ["any", [1]]]]
         endless[1][1][1].append(endless)
         self.fails(BadTree, 0, check_tree, endless)
+        endless = ["all", [["any", [0, 1]], 2]]
+        endless[1][0][1][0] = endless
+        self.fails(BadTree, 0, check_tree, endless)
 
     def test_whatever_takes_a_tree(self):
         takers = [(tree_levers, ()), (tree_knots, ()), (part_at, (None,)), (lever_place, (None,)), (mirror_tree, ()),
