@@ -32,9 +32,8 @@ def beside_each_other(parts, fills):
     return made
 
 
-def one_by_one(parts, others, fills):
-    """Settings part by part; each other part is at the first of its `others`."""
-    firsts = [first_or(own, fill) for own, fill in zip(others, fills)]
+def one_by_one(parts, firsts):
+    """Settings part by part; each other part is at its setting of `firsts`."""
     made = []
     for at, own in enumerate(parts):
         around = 0
@@ -45,8 +44,12 @@ def one_by_one(parts, others, fills):
     return made
 
 
-def listed_rows(walk, ups, downs):
-    """The (ups, downs) of a tree, from those of its levers; all as integers with a bit by lever."""
+def listed_rows(walk, ups, downs, covers):
+    """By row its (ups, downs), from those of the levers; all as integers with a bit by lever.
+
+    Where some part of an "all" is dark, the others are at the first of their ups; in `covers`
+    stands by row where one is instead.
+    """
     full = [lever_bits(levers) for levers in levers_by_row(walk)]
     found = [([], [])] * len(walk.words)
     for row in inner_first(walk):
@@ -59,24 +62,30 @@ def listed_rows(walk, ups, downs):
             up = [full[part] for part in parts]
             down = [0] * len(parts)
             if walk.words[row] == "all":
-                found[row] = (beside_each_other(highs, up), one_by_one(lows, highs, up))
+                firsts = [covers.get(part, first_or(found[part][0], full[part])) for part in parts]
+                found[row] = (beside_each_other(highs, up), one_by_one(lows, firsts))
             else:
-                found[row] = (one_by_one(highs, lows, down), beside_each_other(lows, down))
-    return found[0]
+                firsts = [first_or(own, 0) for own in lows]
+                found[row] = (one_by_one(highs, firsts), beside_each_other(lows, down))
+    return found
 
 
-def list_paper(walk, ups, downs):
+def all_listed(walk, covers):
+    """The (ups, downs) by row for all dead levers."""
+    ups = [[1 << lever] for lever in range(walk.many)]
+    return listed_rows(walk, ups, [[0]] * walk.many, covers)
+
+
+def list_paper(made, many):
     """("list", ups, downs) as settings."""
-    made = listed_rows(walk, ups, downs)
-    rows = [tuple([number_setting(number, walk.many) for number in numbers]) for numbers in made]
+    rows = [tuple([number_setting(number, many) for number in numbers]) for numbers in made]
     return ("list", rows[0], rows[1])
 
 
 def least_list(tree):
     """("list", ups, downs): one list with the fewest settings for all dead levers."""
     walk = tree_walk(tree)
-    ups = [[1 << lever] for lever in range(walk.many)]
-    return list_paper(walk, ups, [[0]] * walk.many)
+    return list_paper(all_listed(walk, {})[0], walk.many)
 
 
 def are_doubts(value, many):
@@ -91,11 +100,8 @@ def are_doubts(value, many):
     return True
 
 
-def doubtful_list(tree, doubts):
-    """("list", ups, downs) for dead levers of which just these are in doubt."""
-    walk = tree_walk(tree)
-    if not are_doubts(doubts, walk.many):
-        raise Refused(doubts)
+def doubts_listed(walk, doubts):
+    """The (ups, downs) by row for dead levers of which just these are in doubt."""
     ups = [[] for _ in range(walk.many)]
     downs = [[] for _ in range(walk.many)]
     for lever, place in doubts:
@@ -103,7 +109,15 @@ def doubtful_list(tree, doubts):
             ups[lever] = [1 << lever]
         else:
             downs[lever] = [0]
-    return list_paper(walk, ups, downs)
+    return listed_rows(walk, ups, downs, {})
+
+
+def doubtful_list(tree, doubts):
+    """("list", ups, downs) for dead levers of which just these are in doubt."""
+    walk = tree_walk(tree)
+    if not are_doubts(doubts, walk.many):
+        raise Refused(doubts)
+    return list_paper(doubts_listed(walk, doubts)[0], walk.many)
 
 
 def powers(base, many):

@@ -4,10 +4,13 @@ import itertools
 import random
 import unittest
 
+from deadlevers.cheap import Scale
 from deadlevers.errors import BadTree, LeverError, NoLever, Refused, TooGreat
+from deadlevers.nets import Net
 from deadlevers.tables import Table
 
 ATTRIBUTES = {"TooGreat": "most", "NoLever": "lever"}
+COMPARED = (Table, Scale, Net)
 
 
 def nested(kind, depth, inner=0):
@@ -43,6 +46,7 @@ ANY_VALUES = (
     nested(list, 40), nested(tuple, 40), nested(list, 40, None), nested(tuple, 39, (True,)), doubled(40), knotted(20),
     ("all", ()), ("all", (0,)), ("all", 0), ("none", (0, 1)), ["all", [0, -1]], ["any", [0, True]],
     Table([0, 1]), Table([0, 0, 0, 1]), [Table([0, 1])], (Table([0, 1]), 0), BadTree(0), [Refused(None)], NoLever(1),
+    Net(2, [(0, 1)]), Scale([1, 1], [0]),
 )
 
 
@@ -56,15 +60,15 @@ def same(one, other):
         return all(map(same, one, other))
     if isinstance(one, (int, str, type(None))):
         return type(one) is type(other) and one == other
-    return one is other or isinstance(one, Table) and isinstance(other, Table) and one == other
+    return type(one) is type(other) and isinstance(one, COMPARED) and one == other
 
 
 def has_only_tuples(value):
     """Whether there is no list within a value."""
     if isinstance(value, tuple):
         return all(map(has_only_tuples, value))
-    if isinstance(value, Table):
-        return has_only_tuples(value.lamps)
+    if isinstance(value, COMPARED):
+        return all(map(has_only_tuples, vars(value).values()))
     return isinstance(value, (int, str, type(None)))
 
 

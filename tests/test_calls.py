@@ -5,7 +5,9 @@ import importlib
 import inspect
 import unittest
 
+from deadlevers.cheap import Scale
 from deadlevers.errors import LeverError, NoLever
+from deadlevers.nets import Net
 from deadlevers.tables import Table
 from helpers import Case, has_only_tuples, same
 
@@ -17,6 +19,13 @@ LOT = [[0, 0], [1, 1], [3, 1], [5, 0]]
 NAMES = ["door", "key", "lid", "cap", "bolt", "chain"]
 MAJORITY = Table([0, 0, 0, 1, 0, 1, 1, 1])
 FORK = Table([0, 0, 0, 1, 0, 1, 0, 1])
+FAULT = [1, [[[0, 0, 0, 1], ["alive", [2, [0, "turned"]]]], [1, [[2, ["alive", 1]], "alive"]]]]
+OWN = [2, [[1, ["alive", [2, ["alive", "alive"]]]], [1, [[2, ["alive", "alive"]], "alive"]]]]
+TRIALS = [[[1, 0, 1, 1, 1, 0], 1], [[0, 0, 1, 0, 0, 1], 1], [[0, 1, 0, 0, 0, 0], 0]]
+STORY = ["story", LIST + [[0, 1, 0, 1, 1, 1], [1, 0, 0, 0, 1, 0]], LOT]
+SCALE = Scale([1, 1, 1, 1], [0, 1])
+POLL = ["vote", 2, [0, ["any", [1, 3, 4]], 2]]
+BRIDGE = Net(5, [[0, 2], [0, 3], [2, 1], [3, 1], [2, 3], [4, 2]])
 
 # By module the functions, with the names of their arguments and some arguments.
 CALLS = {
@@ -95,9 +104,93 @@ CALLS = {
         ("least_trials", "levers", [12]), ("size_pairs", "levers", [12]), ("sized_tree", "levers up down", [12, 5, 4]),
         ("tree_numbers", "levers", [6]),
     ],
+    "stories": [
+        ("tree_story", "tree", [TREE]), ("table_story", "table", [MAJORITY]),
+        ("tree_story_holds", "tree value", [TREE, STORY]),
+        ("table_story_holds", "table value", [FORK, ["story", [[0, 1, 1]], [[0, 1]]]]), ("least_hidden", "table", [MAJORITY]),
+    ],
+    "rules": [
+        ("rising_rules", "many", [3]), ("rule_needs", "rule", [[0, 0, 0, 1, 0, 1, 0, 1]]), ("needing_number", "many", [3]),
+    ],
+    "shapes": [
+        ("own_fault", "tree", [TREE]), ("lot_fault", "tree lot", [TREE, LOT]),
+        ("fault_lamp", "tree fault setting", [TREE, FAULT, SETTING]), ("plain_fault", "tree fault", [TREE, FAULT]),
+        ("needed_levers", "tree fault", [TREE, FAULT]), ("parting_setting", "tree one other", [TREE, FAULT, OWN]),
+        ("box_number", "tree kinds", [TREE, [True, "rising"]]), ("all_boxes", "tree kinds", [TREE, [False, "own"]]),
+        ("lots_alike", "tree lot", [TREE, LOT]),
+    ],
+    "afar": [
+        ("off_counts", "tree fault", [TREE, FAULT]), ("nearest_box", "tree", [TREE]), ("blind_number", "tree", [TREE]),
+    ],
+    "chains": [
+        ("is_chain", "tree", [TREE]), ("shape_story", "tree", [TREE]), ("story_holds", "tree value", [TREE, [LIST, FAULT]]),
+        ("boxes_left", "tree trials kinds", [TREE, TRIALS, [True, "rising"]]),
+    ],
+    "meetings": [
+        ("dead_parts", "tree lot", [TREE, LOT]), ("live_levers", "tree lot", [TREE, LOT]),
+        ("hold_lot", "tree value", [TREE, 1]), ("hold_number", "tree value", [TREE, 0]),
+        ("spare_lot", "tree lot", [TREE, LOT]), ("meetings", "tree lot", [TREE, LOT]), ("is_let", "tree lot", [TREE, LOT]),
+        ("is_sharp", "tree lot", [TREE, LOT]), ("let_paper", "tree lot", [TREE, LOT]),
+        ("let_holds", "tree lot value", [TREE, LOT, ["let", [1, 0, 3, 2]]]), ("let_list", "tree lot", [TREE, LOT]),
+        ("sharp_list", "tree lot", [TREE, LOT]),
+    ],
+    "sharp": [
+        ("sharp_sizes", "tree", [TREE]), ("sharp_number", "tree", [TREE]), ("catch_number", "tree", [TREE]),
+        ("error_sizes", "tree", [TREE]), ("error_number", "tree", [TREE]), ("sharp_lot", "tree number", [TREE, 2]),
+        ("sharp_place", "tree lot", [TREE, LOT]), ("error_lot", "tree number", [TREE, 9]),
+        ("missed_lot", "tree number", [TREE, 2]),
+    ],
+    "slips": [
+        ("part_answers", "tree settings place", [TREE, LIST, [1]]),
+        ("answer_ways", "tree settings answer", [TREE, LIST, [1, 0, 1, 1]]),
+    ],
+    "fitting": [
+        ("fitting_total", "tree trials", [TREE, TRIALS]), ("fewest_dead", "tree trials", [TREE, TRIALS]),
+        ("fitting_lot", "tree trials", [TREE, TRIALS]), ("let_by", "tree settings", [TREE, LIST]),
+        ("surely_alive", "tree trials", [TREE, TRIALS]), ("surely_dead", "tree trials", [TREE, TRIALS]),
+    ],
+    "told": [
+        ("told_shows", "tree trials", [TREE, TRIALS]), ("is_telling", "tree settings", [TREE, LIST]),
+        ("best_trial", "tree settings", [TREE, LIST]),
+    ],
+    "cheap": [
+        ("carriers", "table", [MAJORITY]), ("stoppers", "table", [MAJORITY]), ("shared_sizes", "table", [MAJORITY]),
+        ("least_cover", "lots levers", [[[0, 1], [2], [1, 2]], 3]), ("fewest_trials", "table", [MAJORITY]),
+        ("half_number", "weights", [[1, 2, 1, 2]]), ("half_lot", "weights number", [[1, 2, 1, 2], 1]),
+        ("half_place", "weights lot", [[1, 2, 1, 2], [0, 3]]), ("rest_lot", "weights lot", [[1, 2, 1, 2], [0, 3]]),
+        ("scale_lamp", "scale setting", [SCALE, [1, 0, 0, 1]]), ("other_half", "scale", [SCALE]),
+        ("scale_list", "scale other", [SCALE, [0, 3]]), ("scale_table", "scale", [SCALE]), ("even_scale", "levers", [5]),
+    ],
+    "votes": [
+        ("check_poll", "value", [POLL]), ("poll_levers", "poll", [POLL]), ("poll_lamp", "poll setting", [POLL, [1, 0, 1, 1, 0]]),
+        ("poll_table", "poll", [POLL]), ("poll_hanging", "poll setting", [POLL, [1, 0, 1, 1, 0]]),
+        ("poll_sizes", "poll", [POLL]), ("poll_list", "poll", [POLL]), ("poll_paper", "poll", [POLL]),
+        ("check_poll_paper", "poll value", [["vote", 2, [0, 1, 2]], [
+            "poll", [[1, 1, 0], [1, 0, 1]], [[0, 0, 1], [0, 1, 0]], [None], [None]]]),
+        ("poll_holds", "poll value", [POLL, ["poll", [], [], [None, 0], [None, 0]]]),
+    ],
+    "nets": [
+        ("net_lamp", "net setting", [BRIDGE, [1, 0, 1, 0, 0, 1]]),
+        ("net_broken", "net lot setting", [BRIDGE, [[0, 0], [3, 1]], [1, 0, 1, 0, 0, 1]]),
+        ("net_hung", "net setting", [BRIDGE, [1, 0, 1, 0, 0, 1]]),
+        ("cleared_taps", "net settings", [BRIDGE, [[1, 0, 1, 0, 0, 1]]]), ("net_table", "net", [BRIDGE]),
+        ("way_through", "net tap", [BRIDGE, 4]), ("cut_through", "net tap", [BRIDGE, 4]), ("needed_taps", "net", [BRIDGE]),
+        ("left_net", "net lot", [BRIDGE, [[4, 1]]]), ("tree_net", "tree", [TREE]),
+    ],
+    "joining": [
+        ("net_tree", "net", [Net(3, [[0, 2], [2, 1]])]), ("net_paper", "net", [BRIDGE]),
+        ("net_holds", "net value", [BRIDGE, ["bridge", [[5, 0]], [0, 1, 2, 3, 4]]]), ("three_paper", "net", [BRIDGE]),
+        ("three_holds", "net value", [BRIDGE, ["bridge", [[5, 0]], [0, 1, 2, 3, 4]]]), ("least_dead", "net", [BRIDGE]),
+    ],
+    "hiding": [("pair_story", "net", [BRIDGE])],
 }
-DEFAULTS = {"condition_text": {"senses": None}}
-NAMED = {"shortest": {"most": 100}}
+MOST = {"most": 20000}
+DEFAULTS = {"condition_text": {"senses": None}, "sharp_list": {"most": 400}, "part_answers": MOST, "answer_ways": MOST,
+            "fitting_total": MOST, "fewest_dead": MOST, "fitting_lot": MOST, "let_by": MOST, "surely_alive": MOST,
+            "surely_dead": MOST}
+NAMED = {"shortest": {"most": 100}, "least_hidden": {"most": 100}, "all_boxes": {"most": 100}, "boxes_left": {"most": 100}}
+NAMED.update({name: {"most": 300} for name, named in DEFAULTS.items() if "most" in named})
+CLASSES = [(Table, "lamps"), (Scale, "weights lot"), (Net, "nodes taps")]
 WRONG = [
     ("trees", "check_tree", [["all", [0, ["all", [1, 2]]]]]), ("trees", "named_tree", [TREE, [0, 1, 2, 3, 4, 4]]),
     ("trees", "part_at", [TREE, [0, 7]]), ("trees", "lever_place", [TREE, [1]]),
@@ -108,6 +201,12 @@ WRONG = [
     ("killers", "killed_levers", [FORK, [0], 1]), ("twins", "split_lever", [FORK, 0, ["all"]]),
     ("cores", "table_of", [FORK, [0, ["all", [2, 1]], 3]]), ("cores", "check_core", [FORK, ["killer", [[0, 1, "all"]], 0]]),
     ("lists", "doubtful_list", [TREE, [[0, 1], [0, 0]]]), ("sizes", "sized_tree", [6, [1], [2]]),
+    ("rules", "rising_rules", [[3]]), ("shapes", "plain_fault", [TREE, FAULT[1]]), ("shapes", "box_number", [TREE, [True, []]]),
+    ("afar", "off_counts", [TREE, [1, []]]), ("meetings", "let_list", [TREE, LOT[:1]]), ("sharp", "sharp_lot", [TREE, [1]]),
+    ("slips", "answer_ways", [TREE, LIST, [1, 0]]), ("fitting", "surely_dead", [TREE, TRIALS + [[TRIALS[0][0], 0]]]),
+    ("cheap", "half_place", [[1, 1, 2], [0, 2]]), ("cheap", "scale_list", [SCALE, [2, 3]]),
+    ("votes", "check_poll_paper", [POLL, ["poll", [], [], [None, 0], [None, 0]]]), ("nets", "left_net", [BRIDGE, [[3, 0], [2, 1]]]),
+    ("nets", "way_through", [BRIDGE, [1]]), ("hiding", "pair_story", [Net(3, [[0, 2], [2, 1]])]),
 ]
 
 
@@ -148,8 +247,9 @@ class CallsTest(Case):
                 function(*told)
             self.assertTrue(same(told, before), name)
 
-    def test_named_places_of_table(self):
-        self.assertEqual(list(inspect.signature(Table).parameters), ["lamps"])
+    def test_named_places_of_classes(self):
+        for kind, names in CLASSES:
+            self.assertEqual(list(inspect.signature(kind).parameters), names.split())
 
 
 if __name__ == "__main__":

@@ -66,14 +66,20 @@ True
 
 COURT = '''
 >>> from deadlevers.court import court_holds, is_honest, tall_place
->>> from deadlevers.tables import Table
+>>> from deadlevers.stories import least_hidden, tree_story_holds
+>>> from deadlevers.tables import Table, tree_table
 >>> tall = ("any", (0, ("all", (1, 2))))
 >>> two = ("all", (tall, ("any", (("all", (3, 4)), 5))))
 >>> is_honest(tall), tall_place(two)
 (True, ((), (0, 1)))
->>> most = Table([0, 0, 0, 1, 0, 1, 1, 1])
->>> court_holds(most, ("core", (), 2))
+>>> least_hidden(tree_table(two), most=2000)
+((0, 0), (1, 1), (3, 1), (5, 0))
+>>> settings = [(1, 0, 1, 1, 1, 0), (0, 1, 1, 0, 1, 1), (0, 0, 1, 0, 0, 1), (0, 1, 0, 1, 1, 1), (1, 0, 0, 0, 1, 0), (1, 1, 1, 1, 0, 0)]
+>>> tree_story_holds(two, ("story", settings, ((0, 0), (1, 1), (3, 1), (5, 0))))
 True
+>>> most = Table([0, 0, 0, 1, 0, 1, 1, 1])
+>>> court_holds(most, ("core", (), 2)), least_hidden(most, most=26)
+(True, ((0, 0), (1, 1)))
 '''
 
 FEWEST = '''
@@ -89,7 +95,74 @@ FEWEST = '''
 (2, 3, 7, ((1, 3, 1), (2, 2, 2), (3, 1, 1)))
 '''
 
-# From later chapters: what their examples tell of modules that are there.
+SHAPES = '''
+>>> from deadlevers.afar import nearest_box, off_counts
+>>> from deadlevers.chains import boxes_left, is_chain
+>>> from deadlevers.shapes import box_number, plain_fault
+>>> pairs = ("all", (("any", (0, 1)), ("any", (2, 3))))
+>>> nearest_box(pairs), off_counts(pairs, (1, ((1, ("alive", 0)), (1, ("alive", 0)))))
+((3, 0), (3, 4, 1, 8))
+>>> is_chain(pairs), box_number(pairs, (False, "exchanged")), box_number(pairs, (True, "rising"))
+(False, 42, 314)
+>>> plain_fault(pairs, ((0, 0, 0, 1), ((1, (0, 0)), (2, ("turned", 1)))))
+0
+>>> boxes_left(pairs, [((1, 0, 1, 0), 0), ((0, 1, 1, 0), 1)], (False, "own"), most=100)[0]
+3
+'''
+
+MEETINGS = '''
+>>> from deadlevers.meetings import dead_parts, is_let, let_paper, meetings
+>>> from deadlevers.sharp import catch_number, error_number, sharp_sizes
+>>> hide = ("all", (("any", (0, ("all", (1, 2)))), ("any", (3, ("all", (4, 5))))))
+>>> lot = ((0, 0), (2, 1), (3, 0), (5, 1))
+>>> is_let(hide, lot), meetings(hide, lot)[:2], let_paper(hide, lot[:1])
+(True, (((0, 0), 0, 3, 1), ((0, 1, 1), 1, 2, 0)), ('shown', 0, 1))
+>>> dead_parts(hide, lot[:2]), sharp_sizes(hide), catch_number(hide), error_number(hide)
+((((0, 0), 0), ((0, 1, 1), 1)), (0, 0, 0, 0, 4), 4, 12)
+'''
+
+TOLD = '''
+>>> from deadlevers.fitting import fewest_dead, fitting_lot, let_by, surely_alive, surely_dead
+>>> from deadlevers.slips import answer_ways, part_answers
+>>> from deadlevers.told import best_trial, is_telling, told_shows
+>>> tree = ("all", (("any", (0, 1)), ("any", (2, 3))))
+>>> part_answers(tree, [(1, 0, 0, 1), (0, 0, 1, 0)], (0,)), answer_ways(tree, [(1, 0, 0, 1), (0, 0, 1, 0)], (1, 0))
+(((0, 0), (1, 0), (1, 1)), 19)
+>>> trials = [((1, 0, 0, 1), 1), ((0, 0, 1, 0), 1)]
+>>> fewest_dead(tree, trials), surely_alive(tree, trials), surely_dead(tree, trials)
+((1, 2), (), ())
+>>> fitting_lot(tree, [((1, 1, 1, 1), 0), ((1, 0, 1, 1), 1)]), let_by(tree, [(1, 0, 1, 0), (0, 1, 0, 1), (0, 0, 1, 1), (1, 1, 0, 0)])
+(None, None)
+>>> other = ("all", (0, ("any", (1, 2))))
+>>> told_shows(other, [((1, 1, 0), 1), ((1, 0, 0), 0), ((0, 1, 0), 1)])
+((0, 0, 1), (0, 1, 1), (1, 0, 0), (1, 1, 1), (2, 0, 0))
+>>> is_telling(other, [(1, 1, 0), (1, 0, 0), (0, 1, 0), (1, 0, 1)]), best_trial(tree, [])[1]
+(True, 2)
+'''
+
+CHEAP = '''
+>>> from deadlevers.cheap import even_scale, fewest_trials, half_number, other_half, scale_list, scale_table
+>>> from deadlevers.votes import poll_list, poll_paper, poll_sizes, poll_table
+>>> scale = even_scale(4)
+>>> scale.lot, half_number(scale.weights), other_half(scale), scale_list(scale, (0, 2))
+((0, 1), 6, (0, 2), ((1, 1, 0, 0), (0, 0, 1, 1), (1, 0, 1, 0), (0, 1, 0, 1)))
+>>> fewest_trials(poll_table(("vote", 2, (0, 1, 2))))
+(((1, 1, 0), (1, 0, 1)), ((0, 0, 1), (0, 1, 0)))
+>>> poll_sizes(("vote", 2, (("any", (0, 1, 2)), 3, 4))), poll_paper(("vote", 2, (0, 1, 2)))[3:]
+((3, 2), ((None,), (None,)))
+'''
+
+NETS = '''
+>>> from deadlevers.joining import least_dead, net_paper, net_tree
+>>> from deadlevers.nets import Net, left_net, net_hung
+>>> bridge = Net(4, [(0, 2), (0, 3), (2, 1), (3, 1), (2, 3)])
+>>> net_hung(bridge, (1, 0, 0, 1, 0)), net_paper(bridge)[1], least_dead(bridge)
+((1, 2, 4), (), 2)
+>>> left_net(bridge, [(0, 1)])[2], net_tree(Net(4, [(0, 2), (2, 1), (3, 2), (0, 1)]))
+((1, 2, 3, 4), (('any', (('all', (0, 1)), 2)), (0, 1, 3)))
+'''
+
+# What the story of the court tells of other modules.
 LATER = '''
 >>> from deadlevers.hanging import is_clearing
 >>> from deadlevers.trees import broken_lamp, tree_lamp
@@ -101,7 +174,8 @@ LATER = '''
 '''
 
 ALL = {"overview": OVERVIEW, "boxes": BOXES, "trials": TRIALS, "cores": CORES, "court": COURT,
-       "fewest": FEWEST, "later": LATER}
+       "fewest": FEWEST, "shapes": SHAPES, "meetings": MEETINGS, "told": TOLD, "cheap": CHEAP, "nets": NETS,
+       "later": LATER}
 
 
 class ExamplesTest(unittest.TestCase):
