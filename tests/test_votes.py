@@ -109,6 +109,8 @@ class PollTest(Case):
             self.gives(200, poll_levers(poll))
             self.gives((0, 1), (poll_lamp(poll, (0,) * 200), poll_lamp(poll, (1,) * 200)))
             self.fails(TooGreat, 10, poll_table, poll)
+        self.fails(TooGreat, 10, poll_table, flat_tree(11))
+        self.gives(tuple(plain_lamp(MIXED, at) for at in numbered_settings(10)), poll_table(MIXED).lamps)
         setting = (1,) * 100 + (0,) * 100
         self.gives(tuple(range(100)), poll_hanging(("vote", 100, tuple(range(200))), setting))
         self.gives(tuple(range(100, 200)), poll_hanging(("vote", 101, tuple(range(200))), setting))
