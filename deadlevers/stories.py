@@ -78,13 +78,13 @@ def tree_story(tree):
     return story_paper([mirrored(setting) for setting in settings], turned)
 
 
-def clearing_number(core, idle, lever, place):
-    """The number of a setting of the core with two levers at a place that hangs on the second."""
+def hanging_number(core, idle, lever, place):
+    """The number of a setting of the core that hangs on a lever, told as down, the idle one at a place."""
     many = core.levers
     hanging = lit_mask(bits_number(core.lamps), lever, many)
     if lever != idle:
         hanging &= up_mask(idle, many) if place == 1 else low_mask(idle, many)
-    return first_bit(hanging) | place << lever
+    return first_bit(hanging)
 
 
 def part_setting(walk, bits, place, many):
@@ -105,7 +105,7 @@ def core_story(core, trees, many):
     numbers = []
     for lever, walk in enumerate(walks):
         for place in (0, 1):
-            number = clearing_number(core, idle, lever, place)
+            number = hanging_number(core, idle, lever, place)
             around = 0
             for other, beside in enumerate(walks):
                 if other != lever:

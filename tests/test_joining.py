@@ -191,6 +191,18 @@ class NetHoldsTest(Case):
                 self.gives(worth, three_holds(net, ["bridge", as_lists(paper[1]), list(taps)]))
             self.gives(2, holding)
 
+    def test_five_taps_that_make_no_bridge(self):
+        taps = tuple(range(5))
+        for net in (Net(4, [(0, 2), (2, 3), (3, 1), (3, 1), (0, 2)]), Net(4, [(0, 1), (0, 2), (2, 1), (0, 3), (3, 1)]),
+                    Net(3, [(0, 2), (0, 2), (0, 2), (2, 1), (2, 1)]), Net(6, [(0, 2), (2, 3), (3, 4), (4, 5), (5, 1)]),
+                    Net(2, [(0, 1)] * 5), Net(4, [(0, 2), (2, 1), (0, 3), (3, 1), (0, 3)])):
+            for told in (taps, (1, 0, 3, 2, 4), (0, 2, 1, 3, 4)):
+                self.gives(False, net_holds(net, ("bridge", (), told)))
+                self.gives(False, three_holds(net, ("bridge", (), told)))
+        dead = Net(3, [(0, 2)])
+        for value in (("tree", 0, (0,), ()), ("tree", 0, (), ()), ("bridge", (), ()), ("bridge", (), taps)):
+            self.gives(False, net_holds(dead, value))
+
     def test_bent_lots(self):
         for net in (GRID, THICK):
             _, lot, taps = net_paper(net)
