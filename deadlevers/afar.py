@@ -1,7 +1,7 @@
 """How far boxes of a tree's shape are from the tree."""
 
+from deadlevers.burning import FREE, product_of, ways_by_row
 from deadlevers.faults import fault_rows
-from deadlevers.trials import hung_count
 from deadlevers.values import is_number
 from deadlevers.walks import inner_first, tree_walk
 
@@ -51,13 +51,33 @@ def off_counts(tree, fault):
     return counts[0]
 
 
+def hung_counts(walk):
+    """By row how many settings of all levers outside of the part make the lamp hang on it."""
+    ways = ways_by_row(walk, [FREE] * walk.many)
+    counts = [1] * len(walk.words)
+    for row, parts in enumerate(walk.parts):
+        if parts:
+            passing = [ways[part][1 if walk.words[row] == "all" else 0] for part in parts]
+            whole = counts[row] * product_of(passing)
+            for part, own in zip(parts, passing):
+                counts[part] = whole // own
+    return counts
+
+
+def nearest_of(walk):
+    """The least number of settings of the others at which the lamp hangs on some lever, and the least such one."""
+    by_row = hung_counts(walk)
+    counts = [by_row[walk.rows[lever]] for lever in range(walk.many)]
+    least = min(counts)
+    return (least, counts.index(least))
+
+
 def nearest_box(tree):
     """The least number of settings of the others at which the lamp hangs on some lever, and the least such one."""
-    counts = [hung_count(tree, lever) for lever in range(tree_walk(tree).many)]
-    return (min(counts), counts.index(min(counts)))
+    return nearest_of(tree_walk(tree))
 
 
 def blind_number(tree):
     """How many settings, all unlike, may not be enough to tell the tree from the boxes of its shape."""
-    number, _ = nearest_box(tree)
-    return (1 << tree_walk(tree).many) - number
+    walk = tree_walk(tree)
+    return (1 << walk.many) - nearest_of(walk)[0]

@@ -1,7 +1,7 @@
 """The fewest trials of rising boxes, and scales, which need no more than four."""
 
 from deadlevers.errors import Refused, TooGreat
-from deadlevers.halves import are_weights, count_halves, half_rank, is_half, numbered_half, other_levers
+from deadlevers.halves import HalfCounts, are_weights, is_half, other_levers
 from deadlevers.hanging import lever_bits
 from deadlevers.masks import number_bits
 from deadlevers.rising import check_rising
@@ -138,22 +138,23 @@ def rest_lot(weights, lot):
 def half_number(weights):
     """How many lots have half the weight."""
     check_weights(weights)
-    return count_halves(weights)
+    return HalfCounts(weights).total()
 
 
 def half_lot(weights, number):
     """The lot of half the weight with a number, of all as ascending tuples."""
     check_weights(weights)
-    if not is_below(number, count_halves(weights)):
+    halves = HalfCounts(weights)
+    if not is_below(number, halves.total()):
         raise Refused(number)
-    return numbered_half(weights, number)
+    return halves.numbered(number)
 
 
 def half_place(weights, lot):
     """The number of a lot of half the weight."""
     check_weights(weights)
     check_half(lot, weights)
-    return half_rank(weights, lot)
+    return HalfCounts(weights).rank(lot)
 
 
 def lamp_of_scale(scale, setting):
@@ -173,8 +174,8 @@ def scale_lamp(scale, setting):
 def third_halves(scale):
     """Of the first three lots of half the weight those that are neither the scale's nor its rest."""
     own = (scale.lot, other_levers(scale.lot, len(scale.weights)))
-    count = count_halves(scale.weights)
-    lots = [numbered_half(scale.weights, number) for number in range(min(3, count))]
+    halves = HalfCounts(scale.weights)
+    lots = [halves.numbered(number) for number in range(min(3, halves.total()))]
     return [lot for lot in lots if lot not in own]
 
 
@@ -208,4 +209,4 @@ def even_scale(levers):
     if not is_below(levers, MOST_EVEN + 1) or levers < FEWEST_EVEN:
         raise Refused(levers)
     weights = (1 + levers % 2,) + (1,) * (levers - 1)
-    return Scale(weights, numbered_half(weights, 0))
+    return Scale(weights, HalfCounts(weights).numbered(0))

@@ -1,5 +1,6 @@
 """Lots of levers with half of some weights."""
 
+from deadlevers.columns import full_column
 from deadlevers.values import are_ascending, is_below, is_sequence
 
 MOST_WEIGHTS = 200
@@ -24,65 +25,59 @@ def is_half(value, weights):
 
 def other_levers(lot, many):
     """The levers below `many` that are not in a lot."""
-    return tuple([lever for lever in range(many) if lever not in lot])
+    inner = {lever: True for lever in lot}
+    return tuple([lever for lever in range(many) if lever not in inner])
 
 
 class HalfCounts:
-    """By weight, up to half, how many lots of the last levers have it; at first of all levers."""
+    """How many lots of the last levers have each weight, up to half.
+
+    `packed` has by lever an integer for this one and those behind it: the count of a weight stands
+    in the `width` bits from weight times width on. No count is so great that it fills them.
+    """
 
     def __init__(self, weights):
         self.weights = weights
-        self.counts = [1] + [0] * (sum(weights) // 2)
-        self.first = len(weights)
-        while self.first > 0:
-            self.put_first()
+        self.half = sum(weights) // 2
+        self.width = len(weights) + 1
+        whole = full_column((self.half + 1) * self.width)
+        packed = [1]
+        for weight in weights[::-1]:
+            packed.append((packed[-1] + (packed[-1] << (weight * self.width))) & whole)
+        self.packed = packed[::-1]
 
-    def put_first(self):
-        """Take one lever more, ahead of those that are counted."""
-        self.first -= 1
-        weight = self.weights[self.first]
-        for at in reversed(range(weight, len(self.counts))):
-            self.counts[at] += self.counts[at - weight]
+    def lots_of(self, lever, weight):
+        """How many lots of this lever and those behind it have a weight."""
+        if weight < 0:
+            return 0
+        return (self.packed[lever] >> (weight * self.width)) & full_column(self.width)
 
-    def drop_first(self):
-        """Leave the first of the levers that are counted out."""
-        weight = self.weights[self.first]
-        self.first += 1
-        for at in range(weight, len(self.counts)):
-            self.counts[at] -= self.counts[at - weight]
+    def total(self):
+        """How many lots have half the weight."""
+        return self.lots_of(0, self.half)
 
+    def numbered(self, number):
+        """The lot of half the weight with a number, of all as ascending tuples."""
+        left = self.half
+        lot = []
+        for lever, weight in enumerate(self.weights):
+            taking = self.lots_of(lever + 1, left - weight)
+            # Lots with this lever next stand ahead of those without it.
+            if number < taking:
+                lot.append(lever)
+                left -= weight
+            else:
+                number -= taking
+        return tuple(lot)
 
-def count_halves(weights):
-    """How many lots have half the weight."""
-    return HalfCounts(weights).counts[-1]
-
-
-def numbered_half(weights, number):
-    """The lot of half the weight with a number, of all as ascending tuples."""
-    halves = HalfCounts(weights)
-    left = sum(weights) // 2
-    lot = []
-    for lever, weight in enumerate(weights):
-        halves.drop_first()
-        taking = halves.counts[left - weight] if weight <= left else 0
-        # Lots with this lever next stand ahead of those without it.
-        if number < taking:
-            lot.append(lever)
-            left -= weight
-        else:
-            number -= taking
-    return tuple(lot)
-
-
-def half_rank(weights, lot):
-    """The number of a lot of half the weight."""
-    halves = HalfCounts(weights)
-    left = sum(weights) // 2
-    number = 0
-    for lever, weight in enumerate(weights):
-        halves.drop_first()
-        if lever in lot:
-            left -= weight
-        elif weight <= left:
-            number += halves.counts[left - weight]
-    return number
+    def rank(self, lot):
+        """The number of a lot of half the weight."""
+        inner = {lever: True for lever in lot}
+        left = self.half
+        number = 0
+        for lever, weight in enumerate(self.weights):
+            if lever in inner:
+                left -= weight
+            else:
+                number += self.lots_of(lever + 1, left - weight)
+        return number

@@ -2,17 +2,27 @@
 
 import itertools
 import random
+import time
 import unittest
 
 from deadlevers.afar import blind_number, nearest_box, off_counts
 from deadlevers.errors import BadTree
 from deadlevers.shapes import all_boxes, lot_fault, own_fault
+from deadlevers.trials import hung_count
 from helpers import (ANY_VALUES, GREAT_TREES, Case, as_lists, chain_tree, drawn_trees, flat_tree, lamp, many_of,
-                     pairs_tree, plain_hung, same, settings_of, some_trees)
+                     other_word, pairs_tree, plain_hung, same, settings_of, some_trees)
 from shape_helpers import ALL_KINDS, all_faults, drawn_fault, plain_lamps, shape_lamp
 
 PAIRS = pairs_tree(4)
 FIVE = ("any", (("all", (0, 1)), 2, 3, 4, 5))
+
+
+def remainders(levers, word):
+    """A knot of the levers with unlike remainders by 3, each made likewise, down to single levers."""
+    if len(levers) == 1:
+        return levers[0]
+    parts = [levers[rest::3] for rest in range(3)]
+    return (word, tuple(remainders(part, other_word(word)) for part in parts if part))
 
 
 class OffTest(Case):
@@ -99,6 +109,29 @@ class NearestTest(Case):
             counts = off_counts(tree, lot_fault(tree, [(lever, 0)]))
             self.gives(number, counts[2])
             self.gives(2 ** 200 - number, blind_number(tree))
+
+    def test_great_trees_lever_by_lever(self):
+        """Nothing but the counts of the single levers, whatever the tree looks like."""
+        for tree in [flat_tree(200), flat_tree(200, "any"), chain_tree(200), remainders(list(range(200)), "all"),
+                     remainders(list(range(60)), "any"), pairs_tree(60)] + drawn_trees(4, 3, [40, 60]):
+            counts = [hung_count(tree, lever) for lever in range(many_of(tree))]
+            self.gives((min(counts), counts.index(min(counts))), nearest_box(tree))
+            self.gives(2 ** many_of(tree) - min(counts), blind_number(tree))
+
+    def test_it_takes_little(self):
+        """About as long as `off_counts`, not as long as going through the tree for each lever."""
+        for tree in (flat_tree(200), chain_tree(200), remainders(list(range(200)), "all")):
+            own = own_fault(tree)
+            least = {}
+            for name, call in (("off", lambda: off_counts(tree, own)), ("near", lambda: nearest_box(tree)),
+                               ("blind", lambda: blind_number(tree))):
+                times = []
+                for _ in range(5):
+                    start = time.perf_counter()
+                    call()
+                    times.append(time.perf_counter() - start)
+                least[name] = min(times)
+            self.assertLess(max(least["near"], least["blind"]), 4 * least["off"])
 
     def test_errors(self):
         for call in (nearest_box, blind_number):

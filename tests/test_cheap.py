@@ -2,6 +2,7 @@
 
 import inspect
 import itertools
+import math
 import random
 import unittest
 
@@ -129,7 +130,7 @@ class HalfTest(Case):
     def test_plain_search(self):
         rng = random.Random(5)
         for _ in range(120):
-            weights = drawn_weights(rng, rng.randint(2, 9))
+            weights = drawn_weights(rng, rng.randint(2, 10))
             lots = half_lots(weights)
             self.gives(len(lots), half_number(weights))
             for number, lot in enumerate(lots):
@@ -150,6 +151,31 @@ class HalfTest(Case):
             self.assertEqual(2 * sum(weights[lever] for lever in lot), sum(weights))
         self.gives(0, half_number([100] + [1] * 98))
         self.fails(Refused, 0, half_lot, [100] + [1] * 98, 0)
+
+    def test_two_hundred_weights(self):
+        rng = random.Random(8)
+        for weights in ([1 + (37 * i) % 100 for i in range(200)], [1] * 200, [2] + [1] * 198, [100] * 200,
+                        [rng.randint(1, 100) * 2 for _ in range(50)] + [1] * 150):
+            weights = [min(100, weight) for weight in weights]
+            number = half_number(weights)
+            lots = [half_lot(weights, at) for at in (0, 1, 2)]
+            self.assertTrue(lots[0] < lots[1] < lots[2])
+            for at in (0, 1, 2, number // 7, number // 2, number - 2, number - 1):
+                lot = half_lot(weights, at)
+                self.assertEqual(2 * sum(weights[lever] for lever in lot), sum(weights))
+                self.gives(at, half_place(weights, lot))
+            for at in (number, number + 1, -1, 2 ** 300):
+                self.fails(Refused, at, half_lot, weights, at)
+            scale = Scale(weights, lots[0])
+            rest = rest_lot(weights, lots[0])
+            self.gives([lot for lot in lots if lot not in (lots[0], rest)][0], other_half(scale))
+            self.gives(lots[0], other_half(Scale(weights, lots[1])))
+
+    def test_counts_of_even_weights(self):
+        """Of n weights 1 half can be chosen in as many ways as n over n / 2."""
+        for many in (2, 4, 10, 100, 200):
+            self.gives(math.comb(many, many // 2), half_number((1,) * many))
+            self.gives(tuple(range(many // 2, many)), half_lot((1,) * many, math.comb(many, many // 2) - 1))
 
     def test_errors(self):
         good = [1, 1, 2]
@@ -179,6 +205,16 @@ class ScaleTest(Case):
             lots = half_lots(weights)
             for lot in rng.sample(lots, min(4, len(lots))):
                 self.holds(weights, lot, lots)
+
+    def test_other_halves(self):
+        rng = random.Random(9)
+        for _ in range(60):
+            weights = drawn_weights(rng, rng.randint(2, 10))
+            lots = half_lots(weights)
+            for lot in lots[:4] + rng.sample(lots, min(4, len(lots))):
+                own = (lot, rest_lot(weights, lot))
+                third = [other for other in lots if other not in own]
+                self.gives(third[0] if third else None, other_half(Scale(weights, lot)))
 
     def holds(self, weights, lot, lots):
         scale = Scale(list(weights), list(lot))
