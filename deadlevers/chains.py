@@ -65,23 +65,32 @@ def all_shape_story(walk, row):
     return (settings, [lever for lever in levers[row] if lever not in alive])
 
 
-def shape_story(tree):
-    """None for a chain, else a clearing list and the fault of a box that it lets by."""
+def exchanged_story(tree):
+    """None for a chain, else (settings, row, lot): the exchanged knot and the dead levers of a story."""
     walk = tree_walk(tree)
     row = forked_row(walk)
     if row is None:
         return None
-    told = own_rows(walk)
     if walk.words[row] == "all":
         settings, dead = all_shape_story(walk, row)
-        told[row] = 1
-    else:
-        mirror, dead = all_shape_story(tree_walk(mirror_tree(tree)), row)
-        settings = [tuple([1 - place for place in setting]) for setting in mirror]
-        told[row] = len(walk.parts[row])
-    for lever in dead:
-        told[walk.rows[lever]] = 0 if walk.words[row] == "all" else 1
-    return (tuple(settings), nested_fault(walk, told))
+        return (tuple(settings), row, tuple([(lever, 0) for lever in sorted(dead)]))
+    mirror, dead = all_shape_story(tree_walk(mirror_tree(tree)), row)
+    settings = [tuple([1 - place for place in setting]) for setting in mirror]
+    return (tuple(settings), row, tuple([(lever, 1) for lever in sorted(dead)]))
+
+
+def shape_story(tree):
+    """None for a chain, else a clearing list and the fault of a box that it lets by."""
+    found = exchanged_story(tree)
+    if found is None:
+        return None
+    settings, row, lot = found
+    walk = tree_walk(tree)
+    told = own_rows(walk)
+    told[row] = 1 if walk.words[row] == "all" else len(walk.parts[row])
+    for lever, place in lot:
+        told[walk.rows[lever]] = place
+    return (settings, nested_fault(walk, told))
 
 
 def lets_fault_by(walk, settings, told):

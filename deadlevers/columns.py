@@ -1,7 +1,8 @@
 """Lamps at many settings at once.
 
 A column is an integer with a bit for each setting: that of a lever tells where the lever is up,
-that of a part where its lamp burns. `full` is the column with all bits.
+that of a part where its lamp burns. `full` is the column with all bits. Beside trees the walk may
+be that of a formula: of the three parts of a "choose" the first one tells which of the others counts.
 """
 
 from deadlevers.walks import inner_first
@@ -23,6 +24,8 @@ def full_column(count):
 
 def knot_column(word, columns):
     """The column of a knot whose parts have these."""
+    if word == "choose":
+        return columns[0] & columns[1] | columns[2] & ~columns[0]
     column = columns[0]
     for other in columns[1:]:
         if word == "all":
@@ -45,6 +48,8 @@ def lamp_columns(walk, columns):
 
 def part_hangs(word, lamps, full):
     """By part of a knot where the knot's lamp hangs on it: where no other part settles it."""
+    if word == "choose":
+        return [lamps[1] ^ lamps[2], lamps[0], full ^ lamps[0]]
     settling = lamps
     if word == "all":
         settling = [full ^ lamp for lamp in lamps]

@@ -8,7 +8,7 @@ from deadlevers.tables import number_setting
 from deadlevers.trees import check_lot
 from deadlevers.values import check_place, has_length, is_below
 from deadlevers.walks import row_place, tree_walk
-from deadlevers.witness import can_clear, clearing_setting, shown_bits
+from deadlevers.witness import Witness, all_deaths
 
 
 def tree_dead(tree, lot):
@@ -105,7 +105,7 @@ def let_holds(tree, lot, value):
         return False
     if not is_below(value[1], dead.walk.many) or not is_below(value[2], 2):
         return False
-    return not can_clear(dead.walk, shown_bits(dead.walk, lot), value[1], value[2])
+    return not Witness(dead.walk, lot, ()).can_clear(value[1], value[2])
 
 
 def let_list(tree, lot):
@@ -113,10 +113,7 @@ def let_list(tree, lot):
     dead = tree_dead(tree, lot)
     if not dead.is_let():
         raise Refused(lot)
-    walk = dead.walk
-    shown = shown_bits(walk, lot)
-    deaths = [(lever, place) for lever in range(walk.many) for place in (0, 1)]
-    return tuple([clearing_setting(walk, shown, lever, place) for lever, place in deaths])
+    return tuple(Witness(dead.walk, lot, ()).all_clearing(all_deaths(dead.walk.many)))
 
 
 def sharp_list(tree, lot, *, most=400):

@@ -83,14 +83,19 @@ def cleared_taps(net, settings):
     return (tuple(up), tuple([tap for tap, hanging in enumerate(hangs) if hanging & ~columns[tap]]))
 
 
+def net_mask(net):
+    """The lamps of a net with few taps at all settings, a bit each."""
+    many = len(net.taps)
+    columns = [up_mask(tap, many) for tap in range(many)]
+    return reached_columns(all_beside(net), 0, columns, full_column(1 << many))[1]
+
+
 def net_table(net):
     """The table of a net."""
     many = len(net.taps)
     if many > MOST_TABLE_LEVERS:
         raise TooGreat(MOST_TABLE_LEVERS)
-    columns = [up_mask(tap, many) for tap in range(many)]
-    lamps = reached_columns(all_beside(net), 0, columns, full_column(1 << many))[1]
-    return Table(number_bits(lamps, 1 << many))
+    return Table(number_bits(net_mask(net), 1 << many))
 
 
 def way_through(net, tap):

@@ -33,14 +33,15 @@ class BlockSearch:
     """The search for the taps that some way passes.
 
     These are the ones on a round trip with one tap more between the ends; of it the search begins
-    at node 1, and never goes on from node 0. `order` has by node when it was found, `low` the first
-    node to which a tap leads back from there or from what was found behind it, `taps` the taps
-    behind which the search may still come back.
+    at node 1, and never goes on from node 0. `order` has by node when it was found, `ahead` from
+    which one, `low` the first node to which a tap leads back from there or from what was found behind
+    it, `taps` the taps behind which the search may still come back.
     """
 
     def __init__(self, beside):
         self.order = {0: 0, 1: 1}
         self.low = {1: 1}
+        self.ahead = {}
         self.taps = []
         self.way = [(1, -1)]
         self.left = {1: list(beside[1])}
@@ -59,6 +60,7 @@ class BlockSearch:
             self.taps.append(tap)
             self.order[other] = len(self.order)
             self.low[other] = self.order[other]
+            self.ahead[other] = node
             self.left[other] = list(beside[other])
             self.way.append((other, tap))
         elif self.order[other] < self.order[node]:

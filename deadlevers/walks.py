@@ -85,11 +85,11 @@ def least_levers(walk):
 
 
 def is_ordered(walk):
-    """Whether the parts of each knot stand by their least levers."""
+    """Whether the parts of each knot, but for those of a "choose", stand by their least levers."""
     least = least_levers(walk)
-    for parts in walk.parts:
+    for word, parts in zip(walk.words, walk.parts):
         for at in range(1, len(parts)):
-            if least[parts[at - 1]] >= least[parts[at]]:
+            if word != "choose" and least[parts[at - 1]] >= least[parts[at]]:
                 return False
     return True
 

@@ -21,7 +21,7 @@ BARRED_WORDS = set("""type typing typing_extensions enum Enum IntEnum StrEnum Fl
     namedtuple NamedTuple TypedDict TYPE_CHECKING abstractmethod dataclass overload contextmanager""".split())
 # Whoever tries examples puts _ among the builtins.
 TAKEN = set(dir(builtins)) - {"_"}
-MATH = {"gcd", "lcm", "isqrt", "comb", "perm", "factorial"}
+LIBRARY = {"math": {"gcd", "lcm", "isqrt", "comb", "perm", "factorial"}, "itertools": {"product", "combinations", "permutations"}}
 STATEMENTS = (ast.Assign, ast.AugAssign, ast.If, ast.While, ast.For, ast.Return, ast.Break, ast.Continue, ast.Pass,
               ast.Raise, ast.Try, ast.Expr, ast.FunctionDef, ast.ClassDef, ast.ImportFrom)
 DOUBLE = {"__init__", "__eq__"}
@@ -166,8 +166,8 @@ class LanguageTest(unittest.TestCase):
                 if isinstance(node, ast.ImportFrom):
                     names = {alias.name for alias in node.names}
                     self.assertLessEqual(names, used, name)
-                    if node.module == "math":
-                        self.assertLessEqual(names, MATH)
+                    if node.module in LIBRARY:
+                        self.assertLessEqual(names, LIBRARY[node.module])
                     else:
                         self.assertTrue(node.module.startswith("deadlevers."))
                         file = node.module.split(".", 1)[1] + ".py"
