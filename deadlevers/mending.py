@@ -29,8 +29,8 @@ def net_list(net):
         return ()
     _, inner, taps = left
     ordered = OrderedNet(inner)
-    ways = [[taps[tap] for tap in way] for way in ordered.ways()]
-    cuts = [[taps[tap] for tap in cut] for cut in ordered.cuts()]
+    ways = [[taps[tap] for tap in way] for way in ordered.found_ways()]
+    cuts = [[taps[tap] for tap in cut] for cut in ordered.found_cuts()]
     return tuple(way_settings(ways, len(net.taps)) + cut_settings(cuts, len(net.taps)))
 
 

@@ -49,7 +49,7 @@ class OrderedNet:
             last = self.taps[way[-1]][1]
         return way
 
-    def ways(self):
+    def found_ways(self):
         """Ways that together pass all taps, each some that the ones ahead of it do not."""
         found = []
         passed = {}
@@ -60,7 +60,7 @@ class OrderedNet:
                     passed[step] = True
         return found
 
-    def cuts(self):
+    def found_cuts(self):
         """Least cuts that together hold all taps, each some that the ones ahead of it do not."""
         found = []
         held = {}

@@ -6,11 +6,12 @@ import unittest
 
 from deadlevers.cheap import Scale
 from deadlevers.errors import BadTree, LeverError, NoLever, Refused, TooGreat
+from deadlevers.grammars import Grammar
 from deadlevers.nets import Net
 from deadlevers.tables import Table
 
 ATTRIBUTES = {"TooGreat": "most", "NoLever": "lever"}
-COMPARED = (Table, Scale, Net)
+COMPARED = (Table, Scale, Net, Grammar)
 
 
 def nested(kind, depth, inner=0):
@@ -46,7 +47,7 @@ ANY_VALUES = (
     nested(list, 40), nested(tuple, 40), nested(list, 40, None), nested(tuple, 39, (True,)), doubled(40), knotted(20),
     ("all", ()), ("all", (0,)), ("all", 0), ("none", (0, 1)), ["all", [0, -1]], ["any", [0, True]],
     Table([0, 1]), Table([0, 0, 0, 1]), [Table([0, 1])], (Table([0, 1]), 0), BadTree(0), [Refused(None)], NoLever(1),
-    Net(2, [(0, 1)]), Scale([1, 1], [0]),
+    Net(2, [(0, 1)]), Scale([1, 1], [0]), Grammar([[("lever",)]]),
 )
 
 
@@ -117,6 +118,10 @@ def ordered(tree):
 
 def other_word(word):
     return "any" if word == "all" else "all"
+
+
+def mirror_words(tree):
+    return tree if isinstance(tree, int) else (other_word(tree[0]), tuple(map(mirror_words, tree[1])))
 
 
 def splits(levers):

@@ -7,6 +7,7 @@ import unittest
 
 from deadlevers.cheap import Scale
 from deadlevers.errors import LeverError, NoLever
+from deadlevers.grammars import Grammar
 from deadlevers.nets import Net
 from deadlevers.tables import Table
 from helpers import Case, has_only_tuples, same
@@ -26,6 +27,9 @@ STORY = ["story", LIST + [[0, 1, 0, 1, 1, 1], [1, 0, 0, 0, 1, 0]], LOT]
 SCALE = Scale([1, 1, 1, 1], [0, 1])
 POLL = ["vote", 2, [0, ["any", [1, 3, 4]], 2]]
 BRIDGE = Net(5, [[0, 2], [0, 3], [2, 1], [3, 1], [2, 3], [4, 2]])
+FORMULA = ["all", [["choose", 0, ["not", 1], 2], ["any", [3, ["all", [["not", 4], 5]]]]]]
+GRAMMAR = Grammar([[["all", [1, 1]], ["lever"]], [["any", [0, 0]], ["lever"]]])
+MADE = [0, [[0, [[1, []], [1, []]]], [1, []]]]
 
 # By module the functions, with the names of their arguments and some arguments.
 CALLS = {
@@ -183,6 +187,39 @@ CALLS = {
         ("three_holds", "net value", [BRIDGE, ["bridge", [[5, 0]], [0, 1, 2, 3, 4]]]), ("least_dead", "net", [BRIDGE]),
     ],
     "hiding": [("pair_story", "net", [BRIDGE])],
+    "mending": [
+        ("net_list", "net", [BRIDGE]), ("fewest_ways", "net", [BRIDGE]), ("fewest_cuts", "net", [BRIDGE]),
+        ("least_net_list", "net", [BRIDGE]), ("hiding_pairs", "net", [BRIDGE]), ("least_taken", "net", [BRIDGE]),
+        ("least_welded", "net", [BRIDGE]),
+    ],
+    "choose": [
+        ("check_formula", "value", [FORMULA]), ("formula_levers", "formula", [FORMULA]),
+        ("formula_lamp", "formula setting", [FORMULA, SETTING]), ("formula_broken", "formula lot setting", [FORMULA, LOT, SETTING]),
+        ("negated_formula", "formula", [FORMULA]), ("formula_cleared", "formula settings", [FORMULA, LIST]),
+        ("formula_fault", "formula", [FORMULA]),
+    ],
+    "fables": [
+        ("formula_story", "formula", [FORMULA]), ("formula_story_holds", "formula value", [FORMULA, ["story", LIST, LOT]]),
+    ],
+    "swapped": [
+        ("swapped_lamp", "tree lot places setting", [TREE, LOT, [[], [0, 1]], SETTING]), ("swap_story", "tree", [TREE]),
+        ("swap_holds", "tree value", [TREE, ["swap", LIST, LOT, [[], [0, 1]]]]),
+    ],
+    "grammars": [
+        ("check_derivation", "grammar name value", [GRAMMAR, 0, MADE]),
+        ("derivation_levers", "grammar name derivation", [GRAMMAR, 0, MADE]),
+        ("derived_tree", "grammar name derivation", [GRAMMAR, 0, MADE]),
+    ],
+    "makings": [
+        ("tree_shape", "tree", [TREE]), ("name_shapes", "grammar name", [GRAMMAR, 1]), ("least_levers", "grammar name", [GRAMMAR, 1]),
+        ("least_made", "grammar name shape", [GRAMMAR, 0, "wide"]), ("is_all_honest", "grammar", [GRAMMAR]),
+        ("grammar_paper", "grammar", [GRAMMAR]), ("grammar_holds", "grammar value", [GRAMMAR, ["shapes", [["lever"], []]]]),
+    ],
+    "countings": [
+        ("made_numbers", "grammar name levers", [GRAMMAR, 0, 6]), ("made_at", "grammar name levers number", [GRAMMAR, 0, 6, 5]),
+        ("made_number", "grammar name derivation", [GRAMMAR, 0, MADE]), ("trial_pairs", "grammar name levers", [GRAMMAR, 0, 6]),
+        ("pair_made", "grammar name levers up down", [GRAMMAR, 0, 5, 2, 3]),
+    ],
 }
 MOST = {"most": 20000}
 DEFAULTS = {"condition_text": {"senses": None}, "sharp_list": {"most": 400}, "part_answers": MOST, "answer_ways": MOST,
@@ -190,7 +227,7 @@ DEFAULTS = {"condition_text": {"senses": None}, "sharp_list": {"most": 400}, "pa
             "surely_dead": MOST}
 NAMED = {"shortest": {"most": 100}, "least_hidden": {"most": 100}, "all_boxes": {"most": 100}, "boxes_left": {"most": 100}}
 NAMED.update({name: {"most": 300} for name, named in DEFAULTS.items() if "most" in named})
-CLASSES = [(Table, "lamps"), (Scale, "weights lot"), (Net, "nodes taps")]
+CLASSES = [(Table, "lamps"), (Scale, "weights lot"), (Net, "nodes taps"), (Grammar, "rules")]
 WRONG = [
     ("trees", "check_tree", [["all", [0, ["all", [1, 2]]]]]), ("trees", "named_tree", [TREE, [0, 1, 2, 3, 4, 4]]),
     ("trees", "part_at", [TREE, [0, 7]]), ("trees", "lever_place", [TREE, [1]]),
@@ -207,6 +244,11 @@ WRONG = [
     ("cheap", "half_place", [[1, 1, 2], [0, 2]]), ("cheap", "scale_list", [SCALE, [2, 3]]),
     ("votes", "check_poll_paper", [POLL, ["poll", [], [], [None, 0], [None, 0]]]), ("nets", "left_net", [BRIDGE, [[3, 0], [2, 1]]]),
     ("nets", "way_through", [BRIDGE, [1]]), ("hiding", "pair_story", [Net(3, [[0, 2], [2, 1]])]),
+    ("mending", "least_taken", [Net(3, [[0, 2]])]), ("mending", "fewest_cuts", [Net(2, [[0, 1]] * 13)]),
+    ("choose", "check_formula", [["choose", 0, [1], 2]]), ("choose", "formula_broken", [FORMULA, LOT[::-1], SETTING]),
+    ("swapped", "swapped_lamp", [TREE, [], [[0], []], SETTING]), ("grammars", "derived_tree", [GRAMMAR, 0, [0, [MADE]]]),
+    ("makings", "least_made", [GRAMMAR, 0, ["wide"]]), ("countings", "made_at", [GRAMMAR, 0, 6, [1]]),
+    ("countings", "pair_made", [GRAMMAR, 0, 6, [1], [1]]),
 ]
 
 

@@ -217,6 +217,7 @@ class LanguageTest(unittest.TestCase):
             elif isinstance(node, ast.Attribute):
                 self.assertIn(node.attr, stored | METHODS | methods, at)
         self.assertFalse(methods & METHODS)
+        self.assertFalse(methods & stored)
 
     def test_strings(self):
         for name, tree in self.trees.items():
