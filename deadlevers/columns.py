@@ -61,15 +61,18 @@ def part_hangs(word, lamps, full):
     return [full ^ ((once & ~column) | twice) for column in settling]
 
 
-def hung_columns(walk, lamps, full):
-    """By row where the lamp of the whole tree hangs on the part; `lamps` of `lamp_columns`."""
+def hung_columns(walk, lamps, full, tops=()):
+    """By row where the lamp of the whole tree hangs on the part; `lamps` of `lamp_columns`.
+
+    Below the rows of `tops`, which have lamps of their own, it is the nearest one above that counts.
+    """
     hung = [full] * len(lamps)
     for row in range(len(walk.words)):
         parts = walk.parts[row]
         if parts:
             hangs = part_hangs(walk.words[row], [lamps[part] for part in parts], full)
             for part, column in zip(parts, hangs):
-                hung[part] = hung[row] & column
+                hung[part] = full if part in tops else hung[row] & column
     return hung
 
 

@@ -7,7 +7,7 @@ from deadlevers.errors import BadLot
 from deadlevers.hanging import lever_bits
 from deadlevers.nets import left_by, needed_taps
 from deadlevers.reducing import Reducing
-from deadlevers.trees import check_lot, joined, part_at, part_levers
+from deadlevers.trees import check_deaths, joined, part_at, part_levers
 from deadlevers.values import has_length, is_below, is_sequence, is_word
 from deadlevers.walks import read_form, tree_walk
 
@@ -73,10 +73,8 @@ def net_paper(net):
 
 def told_lot(value, many):
     """Any value that is a lot or an empty sequence, as tuples; else None."""
-    if is_sequence(value) and len(value) == 0:
-        return ()
     try:
-        return check_lot(value, many)
+        return check_deaths(value, many)
     except BadLot:
         return None
 

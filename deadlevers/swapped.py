@@ -4,28 +4,9 @@ from deadlevers.chains import exchanged_story
 from deadlevers.columns import clear_columns, full_column, knot_column, lamp_columns, list_columns
 from deadlevers.errors import BadList, BadLot, Refused
 from deadlevers.stories import broken_columns
-from deadlevers.trees import check_list, check_lot, check_setting
-from deadlevers.values import has_length, is_sequence
-from deadlevers.walks import inner_first, row_at, row_place, tree_walk
-
-
-def lot_or_none(lot, many):
-    """Any value that is a lot, or an empty sequence, as tuples; else BadLot."""
-    if is_sequence(lot) and len(lot) == 0:
-        return ()
-    return check_lot(lot, many)
-
-
-def knot_rows(walk, places):
-    """The rows of any value that is an ascending sequence of unlike places of knots, else None."""
-    if not is_sequence(places):
-        return None
-    rows = [row_at(walk, place) for place in places]
-    # Rows stand in the order of their places; those of levers and of no part are refused.
-    for at, row in enumerate(rows):
-        if row < 0 or not walk.parts[row] or at > 0 and row <= rows[at - 1]:
-            return None
-    return rows
+from deadlevers.trees import check_deaths, check_list, check_setting
+from deadlevers.values import has_length
+from deadlevers.walks import inner_first, knot_rows, row_place, tree_walk
 
 
 def exchanged_column(walk, rows, columns):
@@ -45,7 +26,7 @@ def exchanged_column(walk, rows, columns):
 def swapped_lamp(tree, lot, places, setting):
     """The lamp with a lot dead, perhaps an empty one, and the knots at some places exchanged."""
     walk = tree_walk(tree)
-    dead = lot_or_none(lot, walk.many)
+    dead = check_deaths(lot, walk.many)
     rows = knot_rows(walk, places)
     if rows is None:
         raise Refused(places)
@@ -78,7 +59,7 @@ def swap_holds(tree, value):
         return False
     try:
         settings = check_list(value[1], walk.many)
-        lot = lot_or_none(value[2], walk.many)
+        lot = check_deaths(value[2], walk.many)
     except BadList:
         return False
     except BadLot:

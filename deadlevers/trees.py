@@ -160,6 +160,13 @@ def check_lot(value, many):
     return tuple([tuple(death) for death in value])
 
 
+def check_deaths(value, many):
+    """Any value that is a lot, or an empty sequence, as tuples; else BadLot."""
+    if is_sequence(value) and len(value) == 0:
+        return ()
+    return check_lot(value, many)
+
+
 def broken_setting(setting, lot):
     """The setting that the box has with a lot dead."""
     places = list(setting)

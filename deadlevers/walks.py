@@ -143,6 +143,18 @@ def row_at(walk, place):
     return row
 
 
+def knot_rows(walk, places):
+    """The rows of any value that is an ascending sequence of unlike places of knots, else None."""
+    if not is_sequence(places):
+        return None
+    rows = [row_at(walk, place) for place in places]
+    # Rows stand in the order of their places.
+    for at, row in enumerate(rows):
+        if row < 0 or not walk.parts[row] or at > 0 and row <= rows[at - 1]:
+            return None
+    return rows
+
+
 def levers_by_row(walk):
     """By row the levers of the part."""
     levers = [[lever] for lever in walk.levers]

@@ -114,7 +114,7 @@ class LanguageTest(unittest.TestCase):
                 self.assertIsNone(node.args.kwarg)
                 self.assertEqual(functions(node), [node], (name, node.name))
                 for default in node.args.defaults + [item for item in node.args.kw_defaults if item]:
-                    self.assertIsInstance(default, ast.Constant)
+                    self.assertIsInstance(ast.literal_eval(default), (int, str, tuple, type(None)))
                 if node.name.startswith("__"):
                     self.assertIn(node.name, DOUBLE)
 
@@ -130,7 +130,10 @@ class LanguageTest(unittest.TestCase):
                 self.assertIsInstance(node.exc.func, ast.Name, at)
             if isinstance(node, ast.Try):
                 self.assertLessEqual({handler.type.id for handler in node.handlers}, self.defined["errors.py"], at)
-                self.assertEqual(node.finalbody, [])
+                for last in node.finalbody:
+                    self.assertIsInstance(last, ast.Assign, at)
+                    self.assertIsInstance(last.targets[0], ast.Attribute, at)
+                    self.assertIsInstance(last.value, ast.Name, at)
             if isinstance(node, ast.Compare):
                 for sign, right in zip(node.ops, node.comparators):
                     if isinstance(sign, (ast.Is, ast.IsNot)):
