@@ -223,6 +223,22 @@ def as_lists(value):
     return value
 
 
+def part_of(tree, place):
+    for at in place:
+        tree = tree[1][at]
+    return tree
+
+
+def lever_places(tree, place=()):
+    """By lever its place."""
+    if isinstance(tree, int):
+        return {tree: place}
+    found = {}
+    for at, part in enumerate(tree[1]):
+        found.update(lever_places(part, place + (at,)))
+    return found
+
+
 # Plain searches.
 
 def many_of(tree):
