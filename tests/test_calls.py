@@ -6,8 +6,10 @@ import inspect
 import unittest
 
 from deadlevers.cheap import Scale
+from deadlevers.desk import Desk
 from deadlevers.errors import LeverError, NoLever
 from deadlevers.grammars import Grammar
+from deadlevers.live import Live
 from deadlevers.nets import Net
 from deadlevers.tables import Table
 from helpers import Case, has_only_tuples, same
@@ -220,14 +222,111 @@ CALLS = {
         ("made_number", "grammar name derivation", [GRAMMAR, 0, MADE]), ("trial_pairs", "grammar name levers", [GRAMMAR, 0, 6]),
         ("pair_made", "grammar name levers up down", [GRAMMAR, 0, 5, 2, 3]),
     ],
+    "reaches": [
+        ("greatest_meeting", "grammar name levers", [GRAMMAR, 0, 6]), ("meeting_made", "grammar name levers", [GRAMMAR, 0, 6]),
+    ],
+    "lamps": [
+        ("doubt_paper", "tree", [TREE]), ("is_sure", "tree", [TREE]),
+        ("lamp_values", "tree lamps setting lot", [TREE, [[0], [0, 1]], SETTING, LOT]),
+        ("lamp_clears", "tree lamps settings", [TREE, [[0], [0, 1]], LIST]), ("doubt_story", "tree", [TREE]),
+        ("doubt_holds", "tree value", [TREE, STORY]),
+    ],
+    "fewlamps": [("least_lamps", "tree", [TREE]), ("least_looks", "tree", [TREE])],
+    "fours": [
+        ("four_number", "tree", [TREE]), ("four_lot", "tree number", [TREE, 2]), ("four_place", "tree lot", [TREE, LOT]),
+    ],
+    "wear": [
+        ("wear_lots", "tree log", [TREE, [TRIALS, [], TRIALS[:1]]]), ("wear_words", "tree log", [TREE, [TRIALS[:2], TRIALS]]),
+        ("wear_story", "tree log", [TREE, [TRIALS]]),
+    ],
+    "rounds": [
+        ("round_gaps", "tree settings", [TREE, LIST]), ("round_delay", "tree settings", [TREE, LIST]),
+        ("hiding_paper", "tree settings deaths", [TREE, STORY[1], 3]),
+        ("longest_hiding", "tree settings deaths", [TREE, STORY[1], 3]),
+        ("hiding_holds", "tree settings deaths value", [TREE, STORY[1], 4, ["run", 1, [LOT, LOT]]]),
+    ],
+    "live": [("figures", "tree", [TREE])],
 }
+# By module the functions and classes of the interface.
+INTERFACE = {
+    "errors": "LeverError BadTree BadTable BadSetting BadList BadLot BadText BadGrammar BadNet Refused PaperFault "
+        "TooGreat NoLever",
+    "trees": "is_flat is_tall part_levers joined check_tree tree_levers check_setting check_list check_lot "
+        "broken_setting tree_lamp broken_lamp left_part tree_knots part_at lever_place mirror_tree named_tree",
+    "pairs": "pair_place pair_word bare_setting tree_parting lot_parting",
+    "burning": "burning_number burning_at burning_before",
+    "tables": "setting_number number_setting Table tree_table table_lamp lot_table table_parting hang_setting "
+        "mattering sense_paper sense_holds is_rising turned_table",
+    "texts": "read_condition condition_text up_text read_up",
+    "hanging": "hung_levers table_hung cleared_levers uncleared is_clearing joint_paper joint_holds",
+    "trials": "wish_count dear_levers wish_list best_setting lacking completed spare_settings kept_settings "
+        "shortest hung_numbers hung_count",
+    "updown": "trial_counts",
+    "lists": "doubtful_list least_list up_rows down_rows least_lists",
+    "sizes": "least_trials size_pairs sized_tree tree_numbers",
+    "killers": "killed_levers all_killings idle_killers",
+    "twins": "all_twins joined_twins split_lever",
+    "cores": "core_box found_tree table_of core_paper check_core core_holds",
+    "court": "tall_place is_honest court_paper box_honest court_holds",
+    "stories": "tree_story table_story tree_story_holds table_story_holds least_hidden",
+    "rules": "rising_rules rule_needs needing_number",
+    "shapes": "own_fault lot_fault fault_lamp plain_fault needed_levers parting_setting box_number all_boxes "
+        "lots_alike",
+    "afar": "off_counts nearest_box blind_number",
+    "chains": "is_chain shape_story story_holds boxes_left",
+    "meetings": "dead_parts live_levers hold_lot hold_number spare_lot meetings is_let is_sharp let_paper let_holds "
+        "let_list sharp_list",
+    "sharp": "sharp_sizes sharp_number catch_number error_sizes error_number sharp_lot sharp_place error_lot "
+        "missed_lot",
+    "slips": "part_answers answer_ways",
+    "fitting": "fitting_total fewest_dead fitting_lot let_by surely_alive surely_dead",
+    "told": "told_shows is_telling best_trial",
+    "cheap": "carriers stoppers shared_sizes least_cover fewest_trials half_number half_lot half_place Scale "
+        "rest_lot scale_lamp other_half scale_list scale_table even_scale",
+    "votes": "check_poll poll_levers poll_lamp poll_table poll_hanging poll_sizes poll_list poll_paper "
+        "check_poll_paper poll_holds",
+    "nets": "Net net_lamp net_broken net_hung cleared_taps net_table way_through cut_through needed_taps left_net "
+        "tree_net",
+    "joining": "net_tree net_paper net_holds three_paper three_holds least_dead",
+    "hiding": "pair_story",
+    "mending": "net_list fewest_ways fewest_cuts least_net_list hiding_pairs least_taken least_welded",
+    "choose": "check_formula formula_levers formula_lamp formula_broken negated_formula formula_cleared formula_fault",
+    "fables": "formula_story formula_story_holds",
+    "swapped": "swapped_lamp swap_story swap_holds",
+    "grammars": "Grammar check_derivation derivation_levers derived_tree",
+    "makings": "tree_shape name_shapes least_levers least_made is_all_honest grammar_paper grammar_holds",
+    "countings": "made_numbers made_at made_number trial_pairs pair_made",
+    "reaches": "greatest_meeting meeting_made",
+    "lamps": "doubt_paper is_sure lamp_values lamp_clears doubt_story doubt_holds",
+    "fewlamps": "least_lamps least_looks",
+    "fours": "four_number four_lot four_place",
+    "wear": "wear_lots wear_words wear_story",
+    "rounds": "round_gaps round_delay hiding_paper longest_hiding hiding_holds",
+    "live": "figures Live",
+    "desk": "Desk",
+}
+# By class and method the names of its arguments, and some arguments.
+METHODS = {
+    Live: ([TREE], [
+        ("grow", "lever tree", [1, ["any", [0, 1]]]), ("put_beside", "place word tree", [[0], "any", ["all", [0, 1]]]),
+        ("take_out", "place", [[0, 1]]), ("cut_part", "place", [[0, 1]]), ("turn_knot", "place", [[0, 1]]),
+        ("see", "setting lamp", [SETTING, 1]), ("pause", "", []), ("what_is_sure", "", []), ("undo", "", []), ("redo", "", []),
+        ("within", "work", [Live.pause]),
+    ]),
+    Desk: (["a and (b or not c)"], [("say", "line", ["see 1 a c"])]),
+}
+DOUBTED = {"doubts": None, "lamps": ()}
 MOST = {"most": 20000}
 DEFAULTS = {"condition_text": {"senses": None}, "sharp_list": {"most": 400}, "part_answers": MOST, "answer_ways": MOST,
             "fitting_total": MOST, "fewest_dead": MOST, "fitting_lot": MOST, "let_by": MOST, "surely_alive": MOST,
-            "surely_dead": MOST}
+            "surely_dead": MOST, "lamp_values": {"lot": ()}, "doubt_paper": DOUBTED, "is_sure": DOUBTED, "doubt_story": DOUBTED,
+            "doubt_holds": DOUBTED, "least_lamps": {"doubts": None}, "least_looks": DOUBTED}
 NAMED = {"shortest": {"most": 100}, "least_hidden": {"most": 100}, "all_boxes": {"most": 100}, "boxes_left": {"most": 100}}
 NAMED.update({name: {"most": 300} for name, named in DEFAULTS.items() if "most" in named})
-CLASSES = [(Table, "lamps"), (Scale, "weights lot"), (Net, "nodes taps"), (Grammar, "rules")]
+TOLD_DOUBTS = {"doubts": [[0, 0], [1, 1], [3, 1], [5, 0]], "lamps": [[0, 1]]}
+NAMED.update({name: dict(TOLD_DOUBTS) for name, named in DEFAULTS.items() if named is DOUBTED})
+NAMED["least_lamps"] = {"doubts": TOLD_DOUBTS["doubts"]}
+CLASSES = [(Table, "lamps"), (Scale, "weights lot"), (Net, "nodes taps"), (Grammar, "rules"), (Live, "tree"), (Desk, "text")]
 WRONG = [
     ("trees", "check_tree", [["all", [0, ["all", [1, 2]]]]]), ("trees", "named_tree", [TREE, [0, 1, 2, 3, 4, 4]]),
     ("trees", "part_at", [TREE, [0, 7]]), ("trees", "lever_place", [TREE, [1]]),
@@ -248,7 +347,10 @@ WRONG = [
     ("choose", "check_formula", [["choose", 0, [1], 2]]), ("choose", "formula_broken", [FORMULA, LOT[::-1], SETTING]),
     ("swapped", "swapped_lamp", [TREE, [], [[0], []], SETTING]), ("grammars", "derived_tree", [GRAMMAR, 0, [0, [MADE]]]),
     ("makings", "least_made", [GRAMMAR, 0, ["wide"]]), ("countings", "made_at", [GRAMMAR, 0, 6, [1]]),
-    ("countings", "pair_made", [GRAMMAR, 0, 6, [1], [1]]),
+    ("countings", "pair_made", [GRAMMAR, 0, 6, [1], [1]]), ("reaches", "meeting_made", [GRAMMAR, [0], 6]),
+    ("lamps", "lamp_values", [TREE, [[0, 1], [0]], SETTING, LOT]), ("lamps", "lamp_clears", [TREE, [[]], LIST]),
+    ("fours", "four_lot", [TREE, [0]]), ("fours", "four_place", [TREE, LOT[::-1]]), ("wear", "wear_lots", [TREE, [TRIALS, LIST]]),
+    ("rounds", "hiding_holds", [TREE, LIST, [1], None]), ("rounds", "round_gaps", [TREE, []]),
 ]
 
 
@@ -288,6 +390,36 @@ class CallsTest(Case):
             with self.assertRaises((LeverError, NoLever)):
                 function(*told)
             self.assertTrue(same(told, before), name)
+
+    def test_methods(self):
+        for kind, (made, rows) in METHODS.items():
+            for name, names, told in rows:
+                method = vars(kind)[name]
+                self.assertEqual(list(inspect.signature(method).parameters)[1:], names.split())
+                before = copy.deepcopy(told)
+                one, other = kind(*copy.deepcopy(made)), kind(*copy.deepcopy(made))
+                found = getattr(one, name)(*told)
+                self.assertTrue(same(told, before) or name == "within", name)
+                self.assertTrue(has_only_tuples(found), name)
+                self.assertTrue(same(found, getattr(other, name)(**dict(zip(names.split(), told)))), name)
+            self.assertEqual(list(made), list(copy.deepcopy(made)))
+
+    def test_attributes_are_tuples(self):
+        live = Live(TREE)
+        live.see(SETTING, 1)
+        live.grow(2, OTHER)
+        live.see([0] * 11, 1)
+        self.assertTrue(has_only_tuples((live.tree, live.log, live.ways)))
+        self.assertIsInstance(Desk("a or b").live, Live)
+
+    def test_all_of_the_interface(self):
+        """Each module has just the functions of the interface, as they are listed."""
+        listed = {module: [name for name, _, _ in rows] for module, rows in CALLS.items()}
+        for module, names in INTERFACE.items():
+            found = importlib.import_module("deadlevers." + module)
+            for name in names.split():
+                self.assertEqual(getattr(found, name).__module__, "deadlevers." + module)
+                self.assertTrue(name in listed.get(module, []) or inspect.isclass(getattr(found, name)), name)
 
     def test_named_places_of_classes(self):
         for kind, names in CLASSES:

@@ -1,4 +1,4 @@
-"""The examples of the document, as far as the modules are there."""
+"""The examples of the document, chapter by chapter."""
 
 import doctest
 import os
@@ -66,14 +66,15 @@ True
 
 COURT = '''
 >>> from deadlevers.court import court_holds, is_honest, tall_place
+>>> from deadlevers.fours import four_lot, four_number, four_place
 >>> from deadlevers.stories import least_hidden, tree_story_holds
 >>> from deadlevers.tables import Table, tree_table
 >>> tall = ("any", (0, ("all", (1, 2))))
 >>> two = ("all", (tall, ("any", (("all", (3, 4)), 5))))
->>> is_honest(tall), tall_place(two)
-(True, ((), (0, 1)))
->>> least_hidden(tree_table(two), most=2000)
-((0, 0), (1, 1), (3, 1), (5, 0))
+>>> is_honest(tall), tall_place(two), four_number(two), four_lot(two, 1)
+(True, ((), (0, 1)), 4, ((0, 0), (1, 1), (4, 1), (5, 0)))
+>>> four_place(two, ((0, 0), (2, 1), (3, 1), (5, 0))), least_hidden(tree_table(two), most=2000)
+(2, ((0, 0), (1, 1), (3, 1), (5, 0)))
 >>> settings = [(1, 0, 1, 1, 1, 0), (0, 1, 1, 0, 1, 1), (0, 0, 1, 0, 0, 1), (0, 1, 0, 1, 1, 1), (1, 0, 0, 0, 1, 0), (1, 1, 1, 1, 0, 0)]
 >>> tree_story_holds(two, ("story", settings, ((0, 0), (1, 1), (3, 1), (5, 0))))
 True
@@ -154,12 +155,66 @@ CHEAP = '''
 
 NETS = '''
 >>> from deadlevers.joining import least_dead, net_paper, net_tree
+>>> from deadlevers.mending import fewest_cuts, fewest_ways, least_taken, least_welded
 >>> from deadlevers.nets import Net, left_net, net_hung
 >>> bridge = Net(4, [(0, 2), (0, 3), (2, 1), (3, 1), (2, 3)])
 >>> net_hung(bridge, (1, 0, 0, 1, 0)), net_paper(bridge)[1], least_dead(bridge)
 ((1, 2, 4), (), 2)
+>>> len(fewest_ways(bridge)), len(fewest_cuts(bridge)), least_taken(bridge), least_welded(bridge)
+(2, 2, (0,), (0,))
 >>> left_net(bridge, [(0, 1)])[2], net_tree(Net(4, [(0, 2), (2, 1), (3, 2), (0, 1)]))
 ((1, 2, 3, 4), (('any', (('all', (0, 1)), 2)), (0, 1, 3)))
+'''
+
+CHOOSING = '''
+>>> from deadlevers.choose import formula_broken, formula_cleared, formula_fault, formula_lamp, negated_formula
+>>> from deadlevers.fables import formula_story_holds
+>>> from deadlevers.swapped import swap_holds, swapped_lamp
+>>> lift = ("choose", 0, ("all", (1, 2)), ("not", 3))
+>>> formula_lamp(lift, (0, 1, 1, 1)), formula_broken(lift, [(0, 1)], (0, 1, 1, 1)), formula_fault(lift)
+(0, 1, None)
+>>> formula_cleared(lift, [(1, 1, 1, 0), (0, 0, 1, 0)]), negated_formula(lift)
+(((1, 2), (0, 3)), ('choose', 0, ('any', (('not', 1), ('not', 2))), 3))
+>>> formula_fault(("all", (("choose", 0, 1, 2), 3, ("choose", 4, 5, 6))))
+('tall', (), (0, 2))
+>>> tree = ("all", (("any", (0, 1)), ("any", (2, 3))))
+>>> swapped_lamp(tree, [(1, 0), (3, 0)], [()], (1, 0, 0, 1))
+1
+>>> settings = [(1, 0, 1, 0), (0, 1, 1, 0), (0, 0, 0, 1), (1, 0, 0, 1), (0, 1, 0, 0)]
+>>> swap_holds(tree, ["swap", settings, [[1, 0], [3, 0]], [[]]])
+True
+'''
+
+GRAMMARS = '''
+>>> from deadlevers.countings import made_at, made_numbers, trial_pairs
+>>> from deadlevers.grammars import Grammar, derivation_levers, derived_tree
+>>> from deadlevers.makings import least_made, name_shapes
+>>> from deadlevers.reaches import greatest_meeting
+>>> rules = Grammar([[("all", (1, 1)), ("lever",)], [("any", (0, 0)), ("lever",)]])
+>>> name_shapes(rules, 1), made_numbers(rules, 0, 4), trial_pairs(rules, 0, 5)
+(('lever', 'flat any', 'knots any', 'tall any', 'wide'), (0, 0, 0, 1, 0, 4, 0, 0), ((2, 3), (3, 3)))
+>>> derived_tree(rules, 0, made_at(rules, 0, 4, 2))
+('all', (('any', (0, 1)), ('any', (2, 3))))
+>>> derivation_levers(rules, 0, least_made(rules, 0, "wide")), greatest_meeting(rules, 0, 6)
+(6, 4)
+'''
+
+DOUBTS = '''
+>>> from deadlevers.desk import Desk
+>>> from deadlevers.lamps import doubt_paper
+>>> from deadlevers.rounds import longest_hiding, round_delay
+>>> from deadlevers.wear import wear_words
+>>> two = ("all", (("any", (0, ("all", (1, 2)))), ("any", (("all", (3, 4)), 5))))
+>>> doubt_paper(two), doubt_paper(two, lamps=[(0,)]), doubt_paper(two, doubts=[(0, 0), (1, 1), (3, 1), (5, 0)])
+(('doubt', (), (0, 1)), None, ('doubt', (), (0, 1)))
+>>> both, settings = ("all", (0, 1)), [(1, 1), (0, 1), (1, 0)]
+>>> round_delay(both, settings), longest_hiding(both, settings, 1), longest_hiding(both, settings, 2)
+(3, 2, 4)
+>>> wear_words(both, [[((1, 1), 1), ((0, 1), 0), ((1, 0), 0)], [((0, 1), 1)]])
+(('alive', 'alive'), ('up', 'open'))
+>>> desk = Desk("(a or b and c) and (d and e or f)")
+>>> [desk.say(line) for line in ("figures", "story", "out f", "figures", "see 1 a d e")]
+['0 2 4 4 12 1 1', 'a down, b up, d up, f down', '(a or b and c) and d and e', '1 2 4 1 6 0 0', 'right']
 '''
 
 # What the story of the court tells of other modules.
@@ -173,9 +228,9 @@ LATER = '''
 (True, [0, 0, 0, 0, 0, 0])
 '''
 
-ALL = {"overview": OVERVIEW, "boxes": BOXES, "trials": TRIALS, "cores": CORES, "court": COURT,
-       "fewest": FEWEST, "shapes": SHAPES, "meetings": MEETINGS, "told": TOLD, "cheap": CHEAP, "nets": NETS,
-       "later": LATER}
+ALL = {"overview": OVERVIEW, "boxes": BOXES, "trials": TRIALS, "cores": CORES, "court": COURT, "fewest": FEWEST,
+       "shapes": SHAPES, "meetings": MEETINGS, "told": TOLD, "cheap": CHEAP, "nets": NETS, "choosing": CHOOSING,
+       "grammars": GRAMMARS, "doubts": DOUBTS, "later": LATER}
 
 
 class ExamplesTest(unittest.TestCase):
