@@ -15,7 +15,7 @@ MOST_EVEN = 200
 
 def smaller_first(lots):
     """Lots in the order of their sizes, then ascending."""
-    return tuple([lot for _, lot in sorted([(len(lot), lot) for lot in lots])])
+    return tuple([lot for _, lot in sorted([(len(own), own) for own in lots])])
 
 
 def place_levers(number, place, many):

@@ -197,13 +197,18 @@ def joined_trials(word, one, other):
     return (one[0] + other[0], max(one[1], other[1]))
 
 
+def empty_rows(count):
+    """So many dicts, with nothing in them yet."""
+    return [{} for _ in range(count)]
+
+
 class TrialMakings:
     """By name, by number of levers, by (up, down) some derivation; `pairs` has derivations of two names of a rule."""
 
     def __init__(self, grammar, most):
-        self.made = [[{} for _ in range(most + 1)] for _ in range(grammar.names)]
+        self.made = [empty_rows(most + 1) for _ in range(grammar.names)]
         knots = [rule for own in grammar.rules for rule in own if rule_names(rule)]
-        self.pairs = {(word, names[-2], names[-1]): [{} for _ in range(most + 1)] for word, names in knots}
+        self.pairs = {(word, names[-2], names[-1]): empty_rows(most + 1) for word, names in knots}
         for levers in range(1, most + 1):
             for word, one, other in list(self.pairs):
                 both = self.both(word, self.tuples_of(one), self.tuples_of(other), levers)

@@ -5,7 +5,7 @@ its dead parts, those that are alive in it among them. By these bits, by the wor
 the value at which a whole part is held, one derivation with the most dead levers is kept.
 """
 
-from deadlevers.countings import MOST_PAIRED
+from deadlevers.countings import MOST_PAIRED, empty_rows
 from deadlevers.grammars import check_name, rule_names
 from deadlevers.holding import settling_value
 from deadlevers.sharpways import ALIVE, DEAD, SHARP, met_bits
@@ -39,12 +39,12 @@ class MeetingMakings:
         keys = [(word, name) for word in ("all", "any") for name in names]
         knots = [rule for own in grammar.rules for rule in own if rule_names(rule)]
         tails = [(word, own[-2], own[-1]) for word, own in knots]
-        self.held = [[{} for _ in range(most + 1)] for _ in names]
-        self.kinds = [[{} for _ in range(most + 1)] for _ in names]
-        self.wholes = [[{} for _ in range(most + 1)] for _ in names]
-        self.given = {key: [{} for _ in range(most + 1)] for key in keys}
-        self.pairs = {tail: [{} for _ in range(most + 1)] for tail in tails}
-        self.whole_pairs = {tail: [{} for _ in range(most + 1)] for tail in tails}
+        self.held = [empty_rows(most + 1) for _ in names]
+        self.kinds = [empty_rows(most + 1) for _ in names]
+        self.wholes = [empty_rows(most + 1) for _ in names]
+        self.given = {key: empty_rows(most + 1) for key in keys}
+        self.pairs = {tail: empty_rows(most + 1) for tail in tails}
+        self.whole_pairs = {tail: empty_rows(most + 1) for tail in tails}
         for levers in range(1, most + 1):
             self.put_pairs(levers)
             for name, rules in enumerate(grammar.rules):

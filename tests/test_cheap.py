@@ -152,6 +152,19 @@ class HalfTest(Case):
         self.gives(0, half_number([100] + [1] * 98))
         self.fails(Refused, 0, half_lot, [100] + [1] * 98, 0)
 
+    def test_named_weights(self):
+        """Those of even scales, even and odd in number, and some of which no lot, or but two lots have half."""
+        scales = [even_scale(levers).weights for levers in range(4, 11)]
+        for weights in scales + [(1, 3), (2, 4, 100), (1, 1, 1, 5), (1, 1), (1, 2, 3), (5, 1, 1, 1, 1, 1), (100,) * 10]:
+            lots = half_lots(weights)
+            self.gives(len(lots), half_number(weights))
+            self.gives(lots, [half_lot(list(weights), number) for number in range(len(lots))])
+            self.gives(list(range(len(lots))), [half_place(weights, lot) for lot in lots])
+            self.fails(Refused, len(lots), half_lot, weights, len(lots))
+            for lot in lots:
+                third = [other for other in lots if other not in (lot, rest_lot(weights, lot))]
+                self.gives(third[0] if third else None, other_half(Scale(weights, lot)))
+
     def test_two_hundred_weights(self):
         rng = random.Random(8)
         for weights in ([1 + (37 * i) % 100 for i in range(200)], [1] * 200, [2] + [1] * 198, [100] * 200,
