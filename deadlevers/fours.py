@@ -62,15 +62,22 @@ class Pairs:
                 number -= self.own[inner]
         return None
 
+    def part_pairs(self, row):
+        """The (part of the first lever, part of the other one) of the pairs of a knot itself, in order."""
+        parts = self.walk.parts[row]
+        return [(part, other) for part in parts if self.walk.parts[part] for other in parts if other != part]
+
+    def pair_count(self, pair):
+        """How many pairs have their levers in two parts."""
+        return len(self.levers[pair[0]]) * len(self.levers[pair[1]])
+
     def own_pair(self, row, number):
         """The pair of a knot itself with a number."""
-        for part in self.walk.parts[row]:
-            for other in self.walk.parts[row] if self.walk.parts[part] else []:
-                many = len(self.levers[part]) * len(self.levers[other])
-                if other != part and number < many:
-                    beside = self.levers[other]
-                    return (self.levers[part][number // len(beside)], beside[number % len(beside)])
-                number -= many if other != part else 0
+        for pair in self.part_pairs(row):
+            if number < self.pair_count(pair):
+                first, other = self.levers[pair[0]], self.levers[pair[1]]
+                return (first[number // len(other)], other[number % len(other)])
+            number -= self.pair_count(pair)
         return None
 
     def step_to(self, row, lever):
@@ -80,18 +87,18 @@ class Pairs:
     def pair_number(self, row, word, first, other):
         """The number of a pair of a part, None if it is none."""
         knot = parting_row(self.walk, first, other)
-        part, beside = self.step_to(knot, first), self.step_to(knot, other)
-        if self.walk.words[knot] != word or not row <= knot < self.ends[row] or not self.walk.parts[part]:
+        if self.walk.words[knot] != word or not row <= knot < self.ends[row]:
+            return None
+        found = (self.step_to(knot, first), self.step_to(knot, other))
+        if not self.walk.parts[found[0]]:
             return None
         number = self.before[word][knot] - self.before[word][row]
-        whole = len(self.levers[knot])
-        for ahead in self.walk.parts[knot][:self.walk.ranks[part]]:
-            if self.walk.parts[ahead]:
-                number += len(self.levers[ahead]) * (whole - len(self.levers[ahead]))
-        for ahead in self.walk.parts[knot][:self.walk.ranks[beside]]:
-            if ahead != part:
-                number += len(self.levers[part]) * len(self.levers[ahead])
-        return number + self.levers[part].index(first) * len(self.levers[beside]) + self.levers[beside].index(other)
+        for pair in self.part_pairs(knot):
+            if pair == found:
+                break
+            number += self.pair_count(pair)
+        behind = self.levers[found[1]]
+        return number + self.levers[found[0]].index(first) * len(behind) + behind.index(other)
 
 
 def four_number(tree):
